@@ -1,0 +1,161 @@
+"""What several tests share: sample data, all data found by trying, and values of many kinds."""
+
+import itertools
+import random
+
+from toldcounts.areas import Areas
+from toldcounts.crosses import Cross, table_cross
+
+LAND = Areas((("all", "", (10, 12)), ("north", "all", (0, 9)), ("south", "all", (0, 4)),
+              ("coast", "north", (2, 5)), ("hills", "north", (0, 3))))
+POOR = LAND.changed("all", (13, 20))
+RICH = LAND.changed("hills", (8, 9)).changed("all", (0, 9))
+TOWN = Areas((("all", "", (0, 99)), ("east", "all", (0, 99)), ("west", "all", (0, 99)), ("mid", "all", (0, 99))))
+SEEN = (20, 7, 9, 4)
+ALONE = Areas((("all", "", (3, 5)),))
+GRID = table_cross((3, 2), (1, 4))
+SHIFTS = Areas((("all", "", (4, 6)), ("day", "all", (1, 4)), ("night", "all", (0, 3))))
+AGES = Areas((("both", "", (0, 9)), ("old", "both", (2, 3)), ("young", "both", (1, 4))))
+HALL = Cross(SHIFTS, AGES, (((0, 2), (0, 4)), ((1, 1), (0, 9))))
+CROWDED = HALL.changed(("row", "all"), (9, 9))
+SPOT = Cross(ALONE, Areas((("one", "", (4, 9)),)), (((0, 7),),))
+
+
+class AlwaysEqual:
+    """Equal to everything; to be compared with is not for a check to rely on."""
+
+    def __eq__(self, other):
+        return True
+
+
+class NeverAsked:
+    """Raises an error whatever it is asked."""
+
+    def _refuse(self, *_):
+        raise RuntimeError("asked")
+
+    __eq__ = __ne__ = __lt__ = __le__ = __gt__ = __ge__ = _refuse
+    __len__ = __bool__ = __iter__ = __getitem__ = __contains__ = __str__ = __repr__ = __hash__ = _refuse
+
+
+def deep(levels):
+    value = ()
+    for _ in range(levels):
+        value = (value,)
+    return value
+
+
+# Each of these is of no use for any argument, but for those of the tuples that are empty.
+STRANGE = (None, True, False, -1, -(10 ** 99), 10 ** 99, "", " ", "-", "No", "a b", "abcdefghi", "3-8\n", b"all",
+           [], [1, 2], ["all"], {}, {"all": 1}, {1, 2}, object(), AlwaysEqual(), NeverAsked(), len, Areas,
+           range(3), (None,), (True, True), (False, True), ((), ()), ("all",) * 12, ([0, 1],), (NeverAsked(),),
+           (AlwaysEqual(), AlwaysEqual()), (NeverAsked(), NeverAsked(), NeverAsked()), deep(18),
+           ([1], [2], [3]), ({}, {}), (-1, -2), (10 ** 99, 10 ** 99), (b"a", b"b"))
+
+
+def all_counts(areas):
+    """All counts, by trying all numbers of the leaves."""
+    inner = {name: areas.inner(name) for name in areas.names}
+    tried = [range(areas.stretch(name)[0], areas.stretch(name)[1] + 1) for name in areas.leaves]
+    found = []
+    for numbers in itertools.product(*tried):
+        told = dict(zip(areas.leaves, numbers))
+        for name in reversed(areas.names):
+            if inner[name]:
+                told[name] = sum(told[part] for part in inner[name])
+        if all(areas.stretch(name)[0] <= told[name] <= areas.stretch(name)[1] for name in areas.names):
+            found.append(tuple(told[name] for name in areas.names))
+    return sorted(found)
+
+
+def leaf_sums(areas, counts):
+    """The numbers of the leaves in these counts."""
+    places = [areas.names.index(name) for name in areas.leaves]
+    return {tuple(count[at] for at in places): count for count in counts}
+
+
+def column_sums(table):
+    return tuple(sum(column) for column in zip(*table))
+
+
+def row_sums(table):
+    return tuple(sum(row) for row in table)
+
+
+def all_fillings(cross):
+    """All fillings, by trying all numbers of the cells."""
+    rows = leaf_sums(cross.rows, all_counts(cross.rows))
+    columns = leaf_sums(cross.columns, all_counts(cross.columns))
+    wide = len(cross.columns.leaves)
+    tried = [range(low, high + 1) for row in cross.cells for low, high in row]
+    found = []
+    for numbers in itertools.product(*tried):
+        table = tuple(numbers[at:at + wide] for at in range(0, len(numbers), wide))
+        if row_sums(table) in rows and column_sums(table) in columns:
+            found.append(table)
+    return found
+
+
+def told_numbers(cross, fillings):
+    """For each name of a told stretch, the numbers that it has in the fillings, one behind another."""
+    rows = leaf_sums(cross.rows, all_counts(cross.rows))
+    columns = leaf_sums(cross.columns, all_counts(cross.columns))
+    found = {what: [] for what in cross.tolds}
+    for table in fillings:
+        row_count, column_count = rows[row_sums(table)], columns[column_sums(table)]
+        for what in cross.tolds:
+            if what[0] == "row":
+                found[what].append(row_count[cross.rows.names.index(what[1])])
+            elif what[0] == "column":
+                found[what].append(column_count[cross.columns.names.index(what[1])])
+            else:
+                found[what].append(table[what[1]][what[2]])
+    return found
+
+
+def ends(numbers):
+    return (min(numbers), max(numbers))
+
+
+def some_stretch(chance, most):
+    low = chance.choice((0, 0, chance.randint(0, most)))
+    return (low, chance.choice((most, chance.randint(low, most))))
+
+
+def some_areas(chance, most_lines, most_leaves, most):
+    """Areas of any shape, by this random source; not all of them have a count."""
+    while True:
+        names = ["all"] + chance.sample("abcdefghi", chance.randint(0, most_lines - 1))
+        lines = [("all", "", some_stretch(chance, chance.choice((most, 2 * most))))]
+        for at in range(1, len(names)):
+            lines.append((names[at], chance.choice(names[:at]), some_stretch(chance, most)))
+        areas = Areas(tuple(lines))
+        if len(areas.leaves) <= most_leaves:
+            return areas
+
+
+def many_areas(seed, many, most_lines=6, most_leaves=4, most=4):
+    chance = random.Random(seed)
+    return [some_areas(chance, most_lines, most_leaves, most) for _ in range(many)]
+
+
+def some_cross(chance, most_cells):
+    while True:
+        most = chance.choice((2, 3, 5))
+        rows, columns = some_areas(chance, 4, 3, most), some_areas(chance, 4, 3, most)
+        if len(rows.leaves) * len(columns.leaves) <= most_cells:
+            break
+    cells = [[some_stretch(chance, chance.choice((1, 2, 3))) for _ in columns.leaves] for _ in rows.leaves]
+    return Cross(rows, columns, tuple(tuple(row) for row in cells))
+
+
+def many_crosses(seed, many, most_cells=4):
+    chance = random.Random(seed)
+    return [some_cross(chance, most_cells) for _ in range(many)]
+
+
+def great_side(names, whole, inner, leaf):
+    """Eight lines and four leaves: three areas between the whole and the leaves."""
+    one, two, three, four = names
+    return Areas((("all", "", whole), ("left", "all", inner), ("right", "all", inner), ("far", "right", inner),
+                  (one, "left", leaf), (two, "left", leaf), (three, "far", leaf), (four, "far", leaf)))

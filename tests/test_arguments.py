@@ -1,0 +1,178 @@
+"""What all calls have in common ([3] to [5]): arguments of any kind, the first of several wrong ones, names."""
+
+import inspect
+import itertools
+import unittest
+
+from support import ALONE, CROWDED, GRID, HALL, LAND, POOR, SEEN, STRANGE, TOWN
+from toldcounts import (areacounts, areanumbers, areapages, arearanges, arearoundings, areas, crosses, crossranges,
+                        errors, fillings, stretches)
+
+FILLING = ((1, 2), (1, 0))
+GOOD = {"areas": TOWN, "count": SEEN, "hidden": ("east", "mid"), "some": ("mid",), "name": "east", "width": 2,
+        "base": 5, "index": 3, "cross": HALL, "cell": (0, 1), "stretch": (0, 5), "other_stretch": (3, 9)}
+ERRORS = {"areas": "NotAreas", "count": "InvalidCount", "hidden": "InvalidNames", "some": "InvalidNames",
+          "name": "UnknownName", "width": "InvalidNumber", "base": "InvalidNumber", "index": "InvalidIndex",
+          "cross": "NotACross", "cell": "InvalidCell", "stretch": "InvalidStretch", "other_stretch": "InvalidStretch",
+          "lines": "InvalidLines", "text": "InvalidText", "what": "InvalidTold", "cells": "InvalidCells",
+          "row_sums": "InvalidCount", "column_sums": "InvalidCount", "numbers": "InvalidCount"}
+# Each call with the names of its parameters in their order; with values where others than those above are right,
+# and errors where others than those above are told. What has no error may have any value.
+CALLS = (
+    (stretches.stretch_text, "stretch", {}, {}),
+    (stretches.read_stretch, "text", {"text": "3-8"}, {}),
+    (stretches.in_both, "stretch other_stretch", {}, {}),
+    (areas.Areas, "lines", {"lines": LAND.lines}, {}),
+    (areas.Areas.told, "text", {"text": LAND.text}, {}),
+    (LAND.stretch, "name", {"name": "south"}, {}),
+    (LAND.inner, "name", {"name": "all"}, {}),
+    (LAND.changed, "name stretch", {"name": "hills"}, {}),
+    (areacounts.is_count, "areas value", {"value": SEEN}, {}),
+    (areacounts.first_count, "areas", {}, {}),
+    (areacounts.last_count, "areas", {}, {}),
+    (areacounts.count_by_leaves, "areas numbers", {"numbers": (1, 2, 3)}, {}),
+    (areacounts.area_bar, "areas", {}, {}),
+    (areacounts.is_area_bar, "areas value", {"areas": POOR, "value": ("less", "all", ("north", "south"))}, {}),
+    (arearanges.area_range, "areas name", {}, {}),
+    (arearanges.area_ranges, "areas", {}, {}),
+    (arearanges.tight_areas, "areas", {}, {}),
+    (arearanges.needless_lines, "areas", {}, {}),
+    (areanumbers.counts_number, "areas", {}, {}),
+    (areanumbers.count_at, "areas index", {}, {}),
+    (areanumbers.index_of_count, "areas count", {}, {}),
+    (areanumbers.area_numbers, "areas name", {}, {}),
+    (areapages.area_guess, "areas count hidden name", {}, {}),
+    (areapages.worked_out_areas, "areas count hidden", {}, {}),
+    (areapages.is_safe_area, "areas count hidden name width", {}, {}),
+    (areapages.least_area_covers, "areas count hidden some width", {}, {}),
+    (arearoundings.is_area_rounding, "areas count base value", {"value": (20, 5, 10, 5)}, {}),
+    (arearoundings.first_area_rounding, "areas count base", {}, {}),
+    (arearoundings.area_roundings_number, "areas count base", {}, {}),
+    (arearoundings.either_way_areas, "areas count base", {}, {}),
+    (arearoundings.least_distance, "areas count base", {}, {}),
+    (arearoundings.nearest_area_rounding, "areas count base", {}, {}),
+    (crosses.Cross, "rows columns cells", {"rows": HALL.rows, "columns": HALL.columns, "cells": HALL.cells},
+     {"rows": "NotAreas", "columns": "NotAreas"}),
+    (crosses.Cross.told, "text", {"text": HALL.text}, {}),
+    (HALL.stretch, "what", {"what": ("row", "day")}, {}),
+    (HALL.changed, "what stretch", {"what": ("cell", 1, 1)}, {}),
+    (crosses.turned, "cross", {}, {}),
+    (crosses.table_cross, "row_sums column_sums", {"row_sums": (3, 2), "column_sums": (1, 4)}, {}),
+    (fillings.is_filling, "cross value", {"value": FILLING}, {}),
+    (fillings.a_filling, "cross", {}, {}),
+    (fillings.cross_bar, "cross", {"cross": CROWDED}, {}),
+    (fillings.is_cross_bar, "cross value", {"cross": CROWDED, "value": ((), ("both",), True)}, {}),
+    (crossranges.cell_range, "cross cell", {}, {}),
+    (crossranges.row_range, "cross name", {"name": "day"}, {}),
+    (crossranges.column_range, "cross name", {"name": "old"}, {}),
+    (crossranges.block_range, "cross rows columns", {"rows": (0, 1), "columns": (1,)},
+     {"rows": "InvalidCells", "columns": "InvalidCells"}),
+    (crossranges.sure_cells, "cross", {}, {}),
+    (crossranges.tight_cross, "cross", {}, {}),
+    (crossranges.needless_tolds, "cross", {}, {}),
+)
+MODULES = (stretches, areas, areacounts, arearanges, areanumbers, areapages, arearoundings, crosses, fillings,
+           crossranges)
+BASES = {"NotPossible": ("NoData",), "WrongName": ("UnknownName",)}
+
+
+def is_right(name, value):
+    """Whether a strange value is right for this parameter."""
+    if name in ("hidden", "some"):
+        return isinstance(value, tuple) and len(value) == 0
+    return name == "width" and isinstance(value, int) and value > 10 ** 9
+
+
+def cases():
+    for call, names, values, kinds in CALLS:
+        names = names.split(" ")
+        yield call, names, [values.get(name, GOOD.get(name)) for name in names], {**ERRORS, **kinds}
+
+
+class Calls(unittest.TestCase):
+    def test_each_function_and_class_of_the_modules_is_there(self):
+        told = {call for call, _, _, _ in CALLS}
+        for module in MODULES:
+            for name, value in vars(module).items():
+                if getattr(value, "__module__", None) == module.__name__ and name in DOCUMENT:
+                    self.assertIn(value, told, name)
+        self.assertEqual(sum(name in vars(module) for name in DOCUMENT for module in MODULES
+                             if getattr(vars(module).get(name), "__module__", None) == module.__name__), len(DOCUMENT))
+
+    def test_names_and_order_of_parameters(self):
+        for call, names, _, _ in cases():
+            self.assertEqual(list(inspect.signature(call).parameters), names)
+
+    def test_by_position_and_by_name(self):
+        for call, names, values, _ in cases():
+            told = call(*values)
+            self.assertEqual(call(*values), told)
+            self.assertEqual(call(**dict(zip(names, values))), told)
+            self.assertEqual(call(**dict(reversed(list(zip(names, values))))), told)
+            self.assertEqual(call(values[0], **dict(zip(names[1:], values[1:]))), told)
+
+    def test_values_of_any_kind(self):
+        for call, names, values, kinds in cases():
+            for at, name in enumerate(names):
+                for value in STRANGE:
+                    if name == "value":
+                        self.assertIs(call(*values[:at], value), False)
+                    elif not is_right(name, value):
+                        self.refuse(call, [*values[:at], value, *values[at + 1:]], kinds[name], value)
+
+    def test_the_first_of_several_wrong_ones(self):
+        for call, names, values, kinds in cases():
+            places = [at for at, name in enumerate(names) if name != "value"]
+            for many in range(2, len(places) + 1):
+                for wrong in itertools.combinations(places, many):
+                    told = list(values)
+                    for at in wrong:
+                        told[at] = object()
+                    self.refuse(call, told, kinds[names[wrong[0]]], told[wrong[0]])
+
+    def refuse(self, call, values, kind, value):
+        with self.assertRaises(getattr(errors, kind)) as caught:
+            call(*values)
+        error = caught.exception
+        self.assertEqual(error.__class__.__name__, kind)
+        base = [name for name, kinds in BASES.items() if kind in kinds] or ["WrongValue"]
+        self.assertEqual([each.__name__ for each in error.__class__.__bases__], base)
+        if "given" in vars(error):
+            self.assertIs(error.given, value)
+        elif not isinstance(value, tuple):
+            self.assertIs(error.index, None)
+        else:
+            self.assertIn(error.index, (None, 0, 1, 2))
+
+    def test_what_is_told_is_made_of_tuples(self):
+        for call, _, values, _ in cases():
+            self.check(call(*values))
+
+    def check(self, value):
+        if isinstance(value, tuple):
+            for part in value:
+                self.check(part)
+        else:
+            self.assertTrue(value is None or isinstance(value, (bool, int, str, areas.Areas, crosses.Cross)), value)
+
+
+DOCUMENT = """stretch_text read_stretch in_both Areas is_count first_count last_count count_by_leaves area_bar is_area_bar
+area_range area_ranges tight_areas needless_lines counts_number count_at index_of_count area_numbers area_guess
+worked_out_areas is_safe_area least_area_covers is_area_rounding first_area_rounding area_roundings_number
+either_way_areas least_distance nearest_area_rounding Cross turned table_cross is_filling a_filling cross_bar
+is_cross_bar cell_range row_range column_range block_range sure_cells tight_cross needless_tolds""".split()
+
+
+class Kinds(unittest.TestCase):
+    def test_another_class_of_the_package_is_none(self):
+        for call, names, values, kinds in cases():
+            for at, name in enumerate(names):
+                if name in ("areas", "cross"):
+                    other = GRID if name == "areas" else ALONE
+                    self.refuse(call, [*values[:at], other, *values[at + 1:]], kinds[name], other)
+
+    refuse = Calls.refuse
+
+
+if __name__ == "__main__":
+    unittest.main()

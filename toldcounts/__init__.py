@@ -1,0 +1,1 @@
+"""Toldcounts: what told sums let their data be."""

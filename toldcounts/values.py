@@ -1,0 +1,44 @@
+"""What many arguments are checked for, and how numbers stand in texts ([3])."""
+
+# Nothing is said about integers of more digits, and Python does not read very long ones.
+_MOST_DIGITS = 100
+_MOST_LETTERS = 8
+
+
+def is_integer(value):
+    """Whether it is an integer; True and False are none."""
+    return isinstance(value, int) and not isinstance(value, bool)
+
+
+def is_number(value):
+    """Whether it is an integer from 0 on."""
+    return is_integer(value) and value >= 0
+
+
+def are_numbers(value, many):
+    """Whether it is a tuple of so many integers from 0 on."""
+    return isinstance(value, tuple) and len(value) == many and all([is_number(number) for number in value])
+
+
+def is_name(value):
+    """Whether it is a string of one to eight letters from a to z."""
+    if not isinstance(value, str) or len(value) > _MOST_LETTERS:
+        return False
+    return value.isascii() and value.isalpha() and value.islower()
+
+
+def wrong_at(values, is_right):
+    """The index of the first one that is not right, or not greater than the one before it; None if there is none."""
+    for at, value in enumerate(values):
+        if not is_right(value) or (at > 0 and value <= values[at - 1]):
+            return at
+    return None
+
+
+def read_number(text):
+    """The integer from 0 on that stands there, None if none does."""
+    if not (text.isascii() and text.isdigit()) or len(text) > _MOST_DIGITS:
+        return None
+    if text[0] == "0" and text != "0":
+        return None
+    return int(text)
