@@ -80,6 +80,10 @@ class Edges(unittest.TestCase):
         self.assertEqual(least_area_covers(TOWN, SEEN, (), (), 3), ((),))
         self.assertEqual(least_area_covers(TOWN, SEEN, ("east", "west"), ("east", "west"), 16), ((),))
         self.assertEqual(least_area_covers(TOWN, SEEN, ("east",), ("east",), 100), ())
+        names = tuple(sorted(TOWN.names))
+        self.assertEqual(least_area_covers(TOWN, SEEN, names, names, 99), ((),))
+        self.assertEqual(least_area_covers(TOWN, SEEN, names, names, 100), ())
+        self.assertEqual(least_area_covers(TOWN, SEEN, names, (), 100), ((),))
         self.assertEqual(least_area_covers(TOWN, SEEN, (), ("east",), 1),
                          (("all", "east"), ("east", "mid"), ("east", "west")))
         self.assertEqual(least_area_covers(ALONE, (4,), (), ("all",), 2), (("all",),))
