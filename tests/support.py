@@ -82,16 +82,32 @@ def row_sums(table):
     return tuple(sum(row) for row in table)
 
 
+def leaves_in(areas, name):
+    """The indexes of the leaves that lie in an area, or of the leaf that it is."""
+    if name in areas.leaves:
+        return {areas.leaves.index(name)}
+    return set().union(*[leaves_in(areas, part) for part in areas.inner(name)])
+
+
+def do_fit(areas, numbers):
+    """Whether leaves with these numbers have sums as the areas tell."""
+    return all(low <= sum(numbers[leaf] for leaf in leaves_in(areas, name)) <= high
+               for name, _, (low, high) in areas.lines)
+
+
 def all_fillings(cross):
     """All fillings, by trying all numbers of the cells."""
-    rows = leaf_sums(cross.rows, all_counts(cross.rows))
-    columns = leaf_sums(cross.columns, all_counts(cross.columns))
     wide = len(cross.columns.leaves)
     tried = [range(low, high + 1) for row in cross.cells for low, high in row]
-    found = []
+    fit_rows, fit_columns, found = {}, {}, []
     for numbers in itertools.product(*tried):
         table = tuple(numbers[at:at + wide] for at in range(0, len(numbers), wide))
-        if row_sums(table) in rows and column_sums(table) in columns:
+        rows, columns = row_sums(table), column_sums(table)
+        if rows not in fit_rows:
+            fit_rows[rows] = do_fit(cross.rows, rows)
+        if fit_rows[rows] and columns not in fit_columns:
+            fit_columns[columns] = do_fit(cross.columns, columns)
+        if fit_rows[rows] and fit_columns[columns]:
             found.append(table)
     return found
 
@@ -152,6 +168,51 @@ def some_cross(chance, most_cells):
 def many_crosses(seed, many, most_cells=4):
     chance = random.Random(seed)
     return [some_cross(chance, most_cells) for _ in range(many)]
+
+
+def some_tree(chance, leaves):
+    """Names and parents of areas with so many leaves, in at most eight lines."""
+    while True:
+        names = ["all"] + chance.sample("abcdefg", chance.randint(0, 7))
+        parents = [""] + [chance.choice(names[:at]) for at in range(1, len(names))]
+        if sum(name not in parents for name in names) == leaves:
+            return names, parents
+
+
+def stretch_around(chance, number, spread, most):
+    """A stretch in which the number lies."""
+    low, high = max(0, number - chance.randint(0, spread)), number + chance.randint(0, spread)
+    return chance.choice(((low, high), (low, high), (0, high), (low, max(number, most))))
+
+
+def areas_around(chance, numbers, spread):
+    """Areas of any shape in which the leaves can have these numbers."""
+    names, parents = some_tree(chance, len(numbers))
+    told = dict(zip([name for name in names if name not in parents], numbers))
+    for name in reversed(names):
+        if name not in told:
+            told[name] = sum(told[part] for part, parent in zip(names, parents) if parent == name)
+    return Areas(tuple((name, parent, stretch_around(chance, told[name], spread, 40))
+                       for name, parent in zip(names, parents)))
+
+
+def cross_around(chance, rows, columns, most, spread):
+    """A cross of this size in which a table with numbers up to the most fits, and the table."""
+    table = tuple(tuple(chance.randint(0, most) for _ in range(columns)) for _ in range(rows))
+    cells = tuple(tuple(stretch_around(chance, number, spread, most) for number in row) for row in table)
+    cross = Cross(areas_around(chance, row_sums(table), 2 * spread),
+                  areas_around(chance, column_sums(table), 2 * spread), cells)
+    low, high = cross.rows.stretch("all")
+    return cross.changed(("row", "all"), (low, max(low, min(high, 40)))), table
+
+
+def crosses_around(seed, many, sizes, most=2, spread=1):
+    """So many crosses, each of one of the sizes, with numbers up to the most, and with fillings."""
+    chance = random.Random(seed)
+    return [cross_around(chance, *chance.choice(sizes), most, spread)[0] for _ in range(many)]
+
+
+SMALL_SIZES = ((1, 1), (1, 2), (2, 1), (2, 2), (2, 2), (2, 3), (3, 2), (1, 4), (4, 1))
 
 
 def great_side(names, whole, inner, leaf):

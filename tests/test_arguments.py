@@ -5,17 +5,24 @@ import itertools
 import unittest
 
 from support import ALONE, CROWDED, GRID, HALL, LAND, POOR, SEEN, STRANGE, TOWN
-from toldcounts import (areacounts, areanumbers, areapages, arearanges, arearoundings, areas, crosses, crossranges,
-                        errors, fillings, stretches)
+from toldcounts import (areacounts, areanumbers, areapages, arearanges, arearoundings, areas, crosses, crossnumbers,
+                        crossranges, crossroundings, errors, fillings, firsts, pages, reports, scores, stretches, ways)
 
-FILLING = ((1, 2), (1, 0))
+FILLING, OTHER = ((1, 2), (1, 0)), ((2, 0), (1, 1))
+PAGE = pages.Page(HALL, FILLING, ((0, 0), (1, 1)))
+FEW = reports.Report(3, (1, 5), (("mean", 0, 3), ("middle", 2)))
 GOOD = {"areas": TOWN, "count": SEEN, "hidden": ("east", "mid"), "some": ("mid",), "name": "east", "width": 2,
-        "base": 5, "index": 3, "cross": HALL, "cell": (0, 1), "stretch": (0, 5), "other_stretch": (3, 9)}
+        "base": 5, "index": 3, "cross": HALL, "cell": (0, 1), "stretch": (0, 5), "other_stretch": (3, 9),
+        "filling": FILLING, "other": OTHER, "page": PAGE, "people": 3, "scale": (1, 5), "total": 9, "squares": 29,
+        "mean": 3, "places": 1, "most": 40}
 ERRORS = {"areas": "NotAreas", "count": "InvalidCount", "hidden": "InvalidNames", "some": "InvalidNames",
           "name": "UnknownName", "width": "InvalidNumber", "base": "InvalidNumber", "index": "InvalidIndex",
           "cross": "NotACross", "cell": "InvalidCell", "stretch": "InvalidStretch", "other_stretch": "InvalidStretch",
           "lines": "InvalidLines", "text": "InvalidText", "what": "InvalidTold", "cells": "InvalidCells",
-          "row_sums": "InvalidCount", "column_sums": "InvalidCount", "numbers": "InvalidCount"}
+          "row_sums": "InvalidCount", "column_sums": "InvalidCount", "numbers": "InvalidCount",
+          "filling": "InvalidFilling", "other": "InvalidFilling", "page": "NotAPage", "people": "InvalidPeople",
+          "scale": "InvalidScale", "total": "InvalidNumber", "squares": "InvalidNumber", "mean": "InvalidNumber",
+          "places": "InvalidPlaces", "most": "InvalidNumber", "facts": "InvalidFacts", "fact": "InvalidFact"}
 # Each call with the names of its parameters in their order; with values where others than those above are right,
 # and errors where others than those above are told. What has no error may have any value.
 CALLS = (
@@ -70,17 +77,56 @@ CALLS = (
     (crossranges.sure_cells, "cross", {}, {}),
     (crossranges.tight_cross, "cross", {}, {}),
     (crossranges.needless_tolds, "cross", {}, {}),
+    (firsts.first_filling, "cross", {}, {}),
+    (firsts.last_filling, "cross", {}, {}),
+    (firsts.next_filling, "cross filling", {}, {}),
+    (crossnumbers.fillings_number, "cross", {}, {}),
+    (crossnumbers.filling_at, "cross index", {}, {}),
+    (crossnumbers.index_of_filling, "cross filling", {}, {}),
+    (crossnumbers.cell_numbers, "cross cell", {}, {}),
+    (ways.is_step, "cross value", {"value": (((0, 0),), ((0, 1),))}, {}),
+    (ways.way, "cross filling other", {}, {}),
+    (ways.is_way, "cross filling other value", {"value": ways.way(HALL, FILLING, OTHER)}, {}),
+    (ways.is_corner, "cross filling", {}, {}),
+    (ways.a_corner, "cross", {}, {}),
+    (ways.free_step, "cross filling", {}, {}),
+    (pages.Page, "cross filling hidden", {"hidden": ((0, 0), (1, 1))}, {"hidden": "InvalidCells"}),
+    (pages.Page.told, "text", {"text": PAGE.text}, {}),
+    (pages.known, "page", {}, {}),
+    (pages.guess, "page cell", {}, {}),
+    (pages.guesses, "page", {}, {}),
+    (pages.worked_out, "page", {}, {}),
+    (pages.is_safe, "page cell width", {}, {}),
+    (pages.least_covers, "page some width", {"some": ((0, 1),)}, {"some": "InvalidCells"}),
+    (crossroundings.rounding_cross, "cross filling base", {}, {}),
+    (crossroundings.is_rounding, "cross filling base value", {"value": ((0, 0), (5, 0))}, {}),
+    (crossroundings.first_rounding, "cross filling base", {}, {}),
+    (crossroundings.either_way_cells, "cross filling base", {}, {}),
+    (scores.told_mean, "people total places", {}, {}),
+    (scores.told_spread, "people total squares places", {}, {}),
+    (scores.totals_for, "people scale mean places", {}, {}),
+    (scores.people_for_mean, "scale mean places most", {}, {}),
+    (scores.squares_for, "people scale total", {}, {}),
+    (reports.Report, "people scale facts", {"facts": FEW.facts}, {}),
+    (reports.Report.told, "text", {"text": FEW.text}, {}),
+    (FEW.more, "fact", {"fact": ("least", 1)}, {}),
+    (FEW.without, "index", {"index": 1}, {}),
 )
 MODULES = (stretches, areas, areacounts, arearanges, areanumbers, areapages, arearoundings, crosses, fillings,
-           crossranges)
+           crossranges, firsts, crossnumbers, ways, pages, crossroundings, scores, reports)
+CLASSES = (areas.Areas, crosses.Cross, pages.Page, reports.Report)
 BASES = {"NotPossible": ("NoData",), "WrongName": ("UnknownName",)}
 
 
-def is_right(name, value):
+def is_right(call, name, value):
     """Whether a strange value is right for this parameter."""
     if name in ("hidden", "some"):
         return isinstance(value, tuple) and len(value) == 0
-    return name == "width" and isinstance(value, int) and value > 10 ** 9
+    if not isinstance(value, int) or value < 10 ** 9:
+        return False
+    if name == "people":
+        return call in (scores.told_mean, scores.told_spread)
+    return name in ("width", "total", "squares", "mean") and (call, name) != (scores.told_spread, "total")
 
 
 def cases():
@@ -117,7 +163,7 @@ class Calls(unittest.TestCase):
                 for value in STRANGE:
                     if name == "value":
                         self.assertIs(call(*values[:at], value), False)
-                    elif not is_right(name, value):
+                    elif not is_right(call, name, value) and (call, name) != (scores.told_spread, "total"):
                         self.refuse(call, [*values[:at], value, *values[at + 1:]], kinds[name], value)
 
     def test_the_first_of_several_wrong_ones(self):
@@ -153,21 +199,24 @@ class Calls(unittest.TestCase):
             for part in value:
                 self.check(part)
         else:
-            self.assertTrue(value is None or isinstance(value, (bool, int, str, areas.Areas, crosses.Cross)), value)
+            self.assertTrue(value is None or isinstance(value, (bool, int, str, *CLASSES)), value)
 
 
 DOCUMENT = """stretch_text read_stretch in_both Areas is_count first_count last_count count_by_leaves area_bar is_area_bar
 area_range area_ranges tight_areas needless_lines counts_number count_at index_of_count area_numbers area_guess
 worked_out_areas is_safe_area least_area_covers is_area_rounding first_area_rounding area_roundings_number
 either_way_areas least_distance nearest_area_rounding Cross turned table_cross is_filling a_filling cross_bar
-is_cross_bar cell_range row_range column_range block_range sure_cells tight_cross needless_tolds""".split()
+is_cross_bar cell_range row_range column_range block_range sure_cells tight_cross needless_tolds
+first_filling last_filling next_filling fillings_number filling_at index_of_filling cell_numbers is_step way is_way
+is_corner a_corner free_step Page known guess guesses worked_out is_safe least_covers rounding_cross is_rounding
+first_rounding either_way_cells told_mean told_spread totals_for people_for_mean squares_for Report""".split()
 
 
 class Kinds(unittest.TestCase):
     def test_another_class_of_the_package_is_none(self):
         for call, names, values, kinds in cases():
             for at, name in enumerate(names):
-                if name in ("areas", "cross"):
+                if name in ("areas", "cross", "page"):
                     other = GRID if name == "areas" else ALONE
                     self.refuse(call, [*values[:at], other, *values[at + 1:]], kinds[name], other)
 

@@ -63,6 +63,45 @@ EXAMPLES = r'''
 [(0, 3), (1, 3), (4, 6), (1, 4), ((1, 0),), ['cells 1-2 0-3', 'cells 1 0-2']]
 >>> needless_tolds(hall)
 (('column', 'both'), ('column', 'young'), ('cell', 0, 0), ('cell', 0, 1), ('cell', 1, 1))
+
+>>> from toldcounts.firsts import first_filling, last_filling, next_filling
+>>> [first_filling(hall), last_filling(hall), next_filling(hall, ((1, 0), (1, 2))), next_filling(hall, ((2, 2), (1, 1))), first_filling(crowded)]
+[((1, 0), (1, 2)), ((2, 2), (1, 1)), ((1, 1), (1, 1)), None, None]
+
+>>> from toldcounts.crossnumbers import cell_numbers, filling_at, fillings_number, index_of_filling
+>>> [fillings_number(hall), fillings_number(grid), filling_at(hall, 8), index_of_filling(hall, ((2, 2), (1, 1))), cell_numbers(hall, (0, 0)), cell_numbers(hall, (1, 1))]
+[15, 2, ((2, 0), (1, 1)), 14, ((1, 8), (2, 7)), ((0, 4), (1, 6), (2, 5))]
+
+>>> from toldcounts.ways import a_corner, free_step, is_corner, is_step, is_way, way
+>>> one, two = ((0, 3), (1, 1)), ((1, 2), (0, 2))
+>>> way(grid, one, two)
+(((((0, 0), (1, 1)), ((0, 1), (1, 0))), 1),)
+>>> [is_step(grid, (((0, 0),), ())), is_step(grid, (((0, 0), (0, 1)), ())), is_way(grid, one, two, way(grid, one, two)), is_way(grid, two, one, way(grid, one, two)), is_corner(grid, one), free_step(grid, two), is_corner(hall, ((1, 1), (1, 1))), is_corner(hall, a_corner(hall))]
+[True, False, True, False, True, None, False, True]
+
+>>> from toldcounts.pages import Page, guess, guesses, is_safe, known, least_covers, worked_out
+>>> sheet, numbers = table_cross((5, 4), (3, 6)), ((2, 3), (1, 3))
+>>> blank = Page(sheet, numbers, ((0, 0), (0, 1), (1, 0), (1, 1)))
+>>> [blank.text.split("\n")[-1], guesses(blank), worked_out(blank), is_safe(blank, (0, 0), 3), is_safe(blank, (0, 0), 4), known(blank) == sheet]
+['numbers 1? 3?', (((0, 0), (0, 3)), ((0, 1), (2, 5)), ((1, 0), (0, 3)), ((1, 1), (1, 4))), (), True, False, True]
+>>> bare = Page(sheet, numbers, ((0, 0),))
+>>> [worked_out(bare), guess(bare, (1, 1)), least_covers(bare, ((0, 0),), 2), least_covers(bare, ((0, 0),), 4)]
+[((0, 0),), (3, 3), (((0, 1), (1, 0), (1, 1)),), ()]
+
+>>> from toldcounts.crossroundings import either_way_cells, first_rounding, is_rounding, rounding_cross
+>>> [rounding_cross(sheet, numbers, 5).text.split("\n")[0], first_rounding(sheet, numbers, 5), is_rounding(sheet, numbers, 5, ((5, 0), (0, 5))), is_rounding(sheet, numbers, 5, ((5, 0), (0, 0))), either_way_cells(sheet, numbers, 5)]
+['row all - 1-2', ((0, 5), (0, 0)), True, False, ((0, 0), (0, 1), (1, 0), (1, 1))]
+
+>>> from toldcounts.scores import people_for_mean, squares_for, told_mean, told_spread, totals_for
+>>> [told_mean(4, 10, 2), told_spread(4, 10, 30, 2), totals_for(3, (1, 5), 33, 1)]
+[250, 125, (10,)]
+>>> people_for_mean((1, 5), 233, 2, 12), squares_for(3, (1, 5), 9)
+((3, 6, 9, 12), (27, 29, 33, 35))
+
+>>> from toldcounts.reports import Report
+>>> few = Report(3, (1, 5), (("mean", 0, 3), ("middle", 2)))
+>>> few.text, few.more(("total", (8, 10))).without(1).facts
+('report 3 1-5\nmean 0 3\nmiddle 2', (('mean', 0, 3), ('total', (8, 10))))
 '''
 
 

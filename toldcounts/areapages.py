@@ -77,11 +77,11 @@ def least_area_covers(areas, count, hidden, some, width):
     shown = sorted([name for name in areas.names if name not in hidden])
     covers = []
     for many in range(len(shown) + 1):
-        wider = [more for more in combinations(shown, many) if not _holds_one(more, covers)]
+        wider = [more for more in combinations(shown, many) if not holds_one(more, covers)]
         covers.extend([more for more in wider if _are_safe(areas, count, (*hidden, *more), some, width)])
     return tuple(covers)
 
 
-def _holds_one(names, covers):
-    """Whether one of the covers is a part of these names."""
-    return any([all([name in names for name in cover]) for cover in covers])
+def holds_one(some, covers):
+    """Whether one of the covers is a part of that."""
+    return any([all([name in some for name in cover]) for cover in covers])

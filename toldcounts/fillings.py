@@ -3,13 +3,14 @@
 from toldcounts.areacounts import count_by_leaves
 from toldcounts.areas import is_area
 from toldcounts.crosses import as_table, need_cross, told_stretches
+from toldcounts.errors import InvalidFilling
 from toldcounts.networks import Network
 from toldcounts.stretches import lies_in
 from toldcounts.trees import parents_of
 from toldcounts.values import are_numbers, wrong_at
 
 
-def _is_table(cross, value):
+def is_table(cross, value):
     """Whether it is a table of integers from 0 on, one for each cell."""
     if not isinstance(value, tuple) or len(value) != len(cross.cells):
         return False
@@ -19,16 +20,31 @@ def _is_table(cross, value):
 def is_filling(cross, value):
     """Whether it is a filling of the cross."""
     need_cross(cross)
-    if not _is_table(cross, value):
+    if not is_table(cross, value):
         return False
     for row, cells in zip(value, cross.cells):
         if not all([lies_in(number, cell) for number, cell in zip(row, cells)]):
             return False
-    row_sums = tuple([sum(row) for row in value])
-    column_sums = tuple([sum([row[at] for row in value]) for at in range(len(value[0]))])
-    if count_by_leaves(cross.rows, row_sums) is None:
-        return False
-    return count_by_leaves(cross.columns, column_sums) is not None
+    row_count, column_count = _side_counts(cross, value)
+    return row_count is not None and column_count is not None
+
+
+def _side_counts(cross, table):
+    """The counts of the areas of rows and of columns with the sums of a table; None for each that there is not."""
+    row_sums = tuple([sum(row) for row in table])
+    column_sums = tuple([sum([row[at] for row in table]) for at in range(len(table[0]))])
+    return (count_by_leaves(cross.rows, row_sums), count_by_leaves(cross.columns, column_sums))
+
+
+def need_filling(cross, filling):
+    if not is_filling(cross, filling):
+        raise InvalidFilling(filling)
+
+
+def numbers_in(cross, filling):
+    """The numbers of all areas and cells in a filling, in the order of the names of the told stretches."""
+    row_count, column_count = _side_counts(cross, filling)
+    return [*row_count, *column_count, *[number for row in filling for number in row]]
 
 
 def outside_of(cross):

@@ -14,7 +14,7 @@ class Network:
 
     def __init__(self, nodes, arcs):
         self._nodes = nodes
-        self._arcs = arcs
+        self._arcs = list(arcs)
         self._flows = [arc[2] for arc in arcs]
         self._exits = [[] for _ in range(nodes)]
         for at, arc in enumerate(arcs):
@@ -24,6 +24,18 @@ class Network:
     def flows(self):
         """What flows along each arc."""
         return list(self._flows)
+
+    def take(self, flows):
+        """Takes these flows, of which as much leaves each node as comes in."""
+        self._flows = list(flows)
+
+    def bound(self, at, low, high):
+        """Gives an arc another stretch."""
+        self._arcs[at] = (self._arcs[at][0], self._arcs[at][1], low, high)
+
+    def hold(self, at):
+        """Keeps the flow along an arc as it is."""
+        self.bound(at, self._flows[at], self._flows[at])
 
     def spare(self, step):
         """How often the step can be done."""
@@ -76,18 +88,25 @@ class Network:
             times = min([self.spare(step) for step in steps])
             self._do(steps, min(times, surplus[start], -surplus[goals[0]]))
 
-    def end_of(self, at, sign):
-        """Lets as much (sign 1) or as little (sign -1) as can be flow along an arc of a settled network."""
+    def ring_with(self, at, sign):
+        """The steps of a shortest ring with this one, each of which can be done; [] if there is none."""
         start, goal = self._arcs[at][1], self._arcs[at][0]
         if sign < 0:
             start, goal = goal, start
-        while self.spare((at, sign)) > 0:
-            reached = self._reached([start], at)
-            if goal not in reached:
-                break
-            _, steps = _way_back(reached, goal)
-            steps.append((at, sign))
-            self._do(steps, min([self.spare(step) for step in steps]))
+        if self.spare((at, sign)) == 0:
+            return []
+        reached = self._reached([start], at)
+        if goal not in reached:
+            return []
+        _, steps = _way_back(reached, goal)
+        return [*steps, (at, sign)]
+
+    def end_of(self, at, sign):
+        """Lets as much (sign 1) or as little (sign -1) as can be flow along an arc of a settled network."""
+        ring = self.ring_with(at, sign)
+        while ring:
+            self._do(ring, min([self.spare(step) for step in ring]))
+            ring = self.ring_with(at, sign)
         return self._flows[at]
 
     def range_of(self, at):
