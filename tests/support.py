@@ -1,10 +1,14 @@
 """What several tests share: sample data, all data found by trying, and values of many kinds."""
 
+import fractions
 import itertools
+import math
 import random
 
 from toldcounts.areas import Areas
 from toldcounts.crosses import Cross, table_cross
+from toldcounts.faces import Faces
+from toldcounts.reports import Report
 
 LAND = Areas((("all", "", (10, 12)), ("north", "all", (0, 9)), ("south", "all", (0, 4)),
               ("coast", "north", (2, 5)), ("hills", "north", (0, 3))))
@@ -220,3 +224,133 @@ def great_side(names, whole, inner, leaf):
     one, two, three, four = names
     return Areas((("all", "", whole), ("left", "all", inner), ("right", "all", inner), ("far", "right", inner),
                   (one, "left", leaf), (two, "left", leaf), (three, "far", leaf), (four, "far", leaf)))
+
+
+def nearest(number):
+    """The nearest integer, halves up."""
+    return math.floor(number + fractions.Fraction(1, 2))
+
+
+def all_scores(people, scale):
+    """All scores of so many people, ascending."""
+    return list(itertools.combinations_with_replacement(range(scale[0], scale[1] + 1), people))
+
+
+def told_of(scores, fact):
+    """The fact with what these scores have in the place of what it tells."""
+    people, total = len(scores), sum(scores)
+    if fact[0] == "mean":
+        return ("mean", fact[1], nearest(fractions.Fraction(10 ** fact[1] * total, people)))
+    if fact[0] == "spread":
+        mean = fractions.Fraction(total, people)
+        return ("spread", fact[1], nearest(10 ** fact[1] * sum((score - mean) ** 2 for score in scores) / people))
+    if fact[0] == "total":
+        return ("total", (total, total))
+    if fact[0] == "holders":
+        return ("holders", fact[1], (scores.count(fact[1]), scores.count(fact[1])))
+    return (fact[0], {"middle": scores[(people - 1) // 2], "least": min(scores), "greatest": max(scores)}[fact[0]])
+
+
+def is_told(scores, fact):
+    """Whether the scores are as the fact tells."""
+    right = told_of(scores, fact)
+    if isinstance(fact[-1], tuple):
+        return fact[-1][0] <= right[-1][0] <= fact[-1][1]
+    return right == fact
+
+
+def some_fact(chance, people, scale, scores):
+    """A fact of any kind, right for these scores."""
+    word = chance.choice(("mean", "spread", "total", "middle", "least", "greatest", "holders"))
+    fact = told_of(scores, (word, chance.choice((0, 1, 2) if word in ("mean", "spread") else range(scale[0], scale[1] + 1))))
+    if isinstance(fact[-1], tuple):
+        low = fact[-1][0]
+        return fact[:-1] + ((max(0, low - chance.randint(0, 2)), low + chance.randint(0, 2)),)
+    if word in ("mean", "spread") and chance.random() < 0.15:
+        return fact[:-1] + (fact[-1] + chance.randint(1, 30),)
+    return fact
+
+
+def some_report(chance, people, scale, facts):
+    """A report; mostly some scores fit it."""
+    scores = all_scores(people, scale)
+    told = [chance.choice(scores) for _ in range(2)]
+    lean = chance.choice((0, 0, 0, 1))
+    return Report(people, scale, tuple(some_fact(chance, people, scale, told[chance.randint(0, lean)])
+                                       for _ in range(facts)))
+
+
+def many_reports(seed, many, most_people=5):
+    chance = random.Random(seed)
+    found = []
+    for _ in range(many):
+        low = chance.randint(0, 4)
+        scale = (low, chance.randint(low, min(6, low + 4)))
+        found.append(some_report(chance, chance.randint(1, most_people), scale, chance.randint(0, 6)))
+    return found
+
+
+def all_fits(report):
+    """All scores that fit, ascending."""
+    return [scores for scores in all_scores(report.people, report.scale)
+            if all(is_told(scores, fact) for fact in report.facts)]
+
+
+FEW = Report(3, (1, 5), (("mean", 0, 3), ("middle", 2)))
+CLASHING = Report(3, (1, 5), (("middle", 2), ("total", (13, 15)), ("least", 3)))
+
+
+def faces_around(box):
+    """The faces of a box."""
+    front = tuple(tuple(sum(row) for row in table) for table in box)
+    side = tuple(column_sums(table) for table in box)
+    top = tuple(column_sums(rows) for rows in zip(*box))
+    return Faces(front, side, top)
+
+
+def some_box(chance, a, b, c, total):
+    """A box with these edges and numbers that add up to the total."""
+    box = [[[0] * c for _ in range(b)] for _ in range(a)]
+    for _ in range(total):
+        box[chance.randrange(a)][chance.randrange(b)][chance.randrange(c)] += 1
+    return tuple(tuple(tuple(row) for row in table) for table in box)
+
+
+def rows_with(total, limits):
+    """All rows with this sum and numbers up to the limits."""
+    found = [row for row in itertools.product(*[range(min(limit, total) + 1) for limit in limits]) if sum(row) == total]
+    return found
+
+
+def all_boxes(faces):
+    """All boxes for the faces, by trying all rows with the sums that the front tells."""
+    a, b, c = faces.edges
+    found = [()]
+    for i in range(a):
+        slabs = [()]
+        for j in range(b):
+            limits = [min(faces.side[i][k], faces.top[j][k]) for k in range(c)]
+            slabs = [slab + (row,) for slab in slabs for row in rows_with(faces.front[i][j], limits)]
+        slabs = [slab for slab in slabs if column_sums(slab) == faces.side[i]]
+        found = [box + (slab,) for box in found for slab in slabs]
+    return sorted(box for box in found if tuple(column_sums(rows) for rows in zip(*box)) == faces.top)
+
+
+def many_faces(seed, many, most=8):
+    """Faces with numbers of the front that add up to at most so many; most have a box, some only nearly."""
+    chance = random.Random(seed)
+    found = []
+    while len(found) < many:
+        a, b, c = [chance.choice((1, 2, 2, 3, 3)) for _ in range(3)]
+        faces = faces_around(some_box(chance, a, b, c, chance.choice((most, most, chance.randint(0, most)))))
+        if chance.random() < 0.3:
+            other = faces_around(some_box(chance, a, b, c, chance.randint(0, most)))
+            faces = chance.choice((Faces(faces.front, faces.side, other.top), Faces(faces.front, other.side, faces.top)))
+        found.append(faces)
+    return found
+
+
+ONES = Faces(((1, 1), (1, 1)), ((1, 1), (1, 1)), ((1, 1), (1, 1)))
+APART = Faces(((1, 0), (0, 1)), ((1, 0), (0, 1)), ((0, 1), (1, 0)))
+TWELVE = Faces(((4, 4, 4),), ((4, 4, 4),), ((4, 0, 0), (0, 4, 0), (0, 0, 4)))
+THIRTEEN = Faces(((5, 4, 4),), ((5, 4, 4),), ((5, 0, 0), (0, 4, 0), (0, 0, 4)))

@@ -4,17 +4,20 @@ import inspect
 import itertools
 import unittest
 
-from support import ALONE, CROWDED, GRID, HALL, LAND, POOR, SEEN, STRANGE, TOWN
-from toldcounts import (areacounts, areanumbers, areapages, arearanges, arearoundings, areas, crosses, crossnumbers,
-                        crossranges, crossroundings, errors, fillings, firsts, pages, reports, scores, stretches, ways)
+from support import ALONE, CROWDED, FEW, GRID, HALL, LAND, ONES, POOR, SEEN, STRANGE, TOWN
+from toldcounts import (areacounts, areanumbers, areapages, arearanges, arearoundings, areas, boxes, boxvalues, crosses,
+                        crossnumbers, crossranges, crossroundings, errors, faces, fillings, firsts, islands, pages,
+                        reportdata, reports, reportvalues, scores, stretches, ways)
 
 FILLING, OTHER = ((1, 2), (1, 0)), ((2, 0), (1, 1))
 PAGE = pages.Page(HALL, FILLING, ((0, 0), (1, 1)))
-FEW = reports.Report(3, (1, 5), (("mean", 0, 3), ("middle", 2)))
+BOX = (((0, 1), (1, 0)), ((1, 0), (0, 1)))
 GOOD = {"areas": TOWN, "count": SEEN, "hidden": ("east", "mid"), "some": ("mid",), "name": "east", "width": 2,
         "base": 5, "index": 3, "cross": HALL, "cell": (0, 1), "stretch": (0, 5), "other_stretch": (3, 9),
         "filling": FILLING, "other": OTHER, "page": PAGE, "people": 3, "scale": (1, 5), "total": 9, "squares": 29,
-        "mean": 3, "places": 1, "most": 40}
+        "mean": 3, "places": 1, "most": 40, "report": FEW, "score": 2, "scores": (2, 2, 5), "faces": ONES, "box": BOX,
+        "spot": (0, 0, 1), "other_spot": (1, 1, 0), "front": ((1, 2), (1, 1)), "side": ((2, 1), (1, 1)),
+        "top": ((1, 1), (2, 1)), "part": reports.Report(2, (1, 5), ())}
 ERRORS = {"areas": "NotAreas", "count": "InvalidCount", "hidden": "InvalidNames", "some": "InvalidNames",
           "name": "UnknownName", "width": "InvalidNumber", "base": "InvalidNumber", "index": "InvalidIndex",
           "cross": "NotACross", "cell": "InvalidCell", "stretch": "InvalidStretch", "other_stretch": "InvalidStretch",
@@ -22,7 +25,10 @@ ERRORS = {"areas": "NotAreas", "count": "InvalidCount", "hidden": "InvalidNames"
           "row_sums": "InvalidCount", "column_sums": "InvalidCount", "numbers": "InvalidCount",
           "filling": "InvalidFilling", "other": "InvalidFilling", "page": "NotAPage", "people": "InvalidPeople",
           "scale": "InvalidScale", "total": "InvalidNumber", "squares": "InvalidNumber", "mean": "InvalidNumber",
-          "places": "InvalidPlaces", "most": "InvalidNumber", "facts": "InvalidFacts", "fact": "InvalidFact"}
+          "places": "InvalidPlaces", "most": "InvalidNumber", "facts": "InvalidFacts", "fact": "InvalidFact",
+          "report": "NotAReport", "part": "NotAReport", "score": "InvalidNumber", "scores": "InvalidScores",
+          "faces": "NotFaces", "box": "InvalidBox", "spot": "InvalidSpot", "other_spot": "InvalidSpot",
+          "front": "InvalidFace", "side": "InvalidFace", "top": "InvalidFace"}
 # Each call with the names of its parameters in their order; with values where others than those above are right,
 # and errors where others than those above are told. What has no error may have any value.
 CALLS = (
@@ -111,10 +117,45 @@ CALLS = (
     (reports.Report.told, "text", {"text": FEW.text}, {}),
     (FEW.more, "fact", {"fact": ("least", 1)}, {}),
     (FEW.without, "index", {"index": 1}, {}),
+    (reportdata.does_fit, "report value", {"value": (2, 2, 5)}, {}),
+    (reportdata.first_scores, "report", {}, {}),
+    (reportdata.last_scores, "report", {}, {}),
+    (reportdata.scores_number, "report", {}, {}),
+    (reportdata.scores_at, "report index", {"index": 1}, {}),
+    (reportdata.index_of_scores, "report scores", {}, {}),
+    (reportvalues.holders, "report score", {}, {}),
+    (reportvalues.totals, "report", {}, {}),
+    (reportvalues.squares, "report", {}, {}),
+    (reportvalues.middles, "report", {}, {}),
+    (reportvalues.lowest, "report", {}, {}),
+    (reportvalues.highest, "report", {}, {}),
+    (reportvalues.needless_facts, "report", {}, {}),
+    (reportvalues.least_clashes, "report", {}, {}),
+    (reportvalues.rest_totals, "report part", {}, {}),
+    (faces.Faces, "front side top", {}, {}),
+    (faces.Faces.told, "text", {"text": ONES.text}, {}),
+    (faces.agree, "faces", {}, {}),
+    (faces.box_faces, "box", {}, {}),
+    (faces.tipped, "faces", {}, {}),
+    (boxes.is_box, "faces value", {"value": BOX}, {}),
+    (boxes.first_box, "faces", {}, {}),
+    (boxes.last_box, "faces", {}, {}),
+    (boxes.boxes_number, "faces", {}, {}),
+    (boxes.box_at, "faces index", {"index": 1}, {}),
+    (boxes.index_of_box, "faces box", {}, {}),
+    (boxvalues.spot_values, "faces spot", {}, {}),
+    (boxvalues.pair_values, "faces spot other_spot", {}, {}),
+    (boxvalues.sure_spots, "faces", {}, {}),
+    (boxvalues.gap_pairs, "faces", {}, {}),
+    (boxvalues.slab_boxes, "front side", {}, {}),
+    (boxvalues.tops_number, "front side", {}, {}),
+    (islands.turns_of, "faces box", {}, {}),
+    (islands.islands, "faces", {}, {}),
 )
 MODULES = (stretches, areas, areacounts, arearanges, areanumbers, areapages, arearoundings, crosses, fillings,
-           crossranges, firsts, crossnumbers, ways, pages, crossroundings, scores, reports)
-CLASSES = (areas.Areas, crosses.Cross, pages.Page, reports.Report)
+           crossranges, firsts, crossnumbers, ways, pages, crossroundings, scores, reports, reportdata, reportvalues,
+           faces, boxes, boxvalues, islands)
+CLASSES = (areas.Areas, crosses.Cross, pages.Page, reports.Report, faces.Faces)
 BASES = {"NotPossible": ("NoData",), "WrongName": ("UnknownName",)}
 
 
@@ -209,14 +250,17 @@ either_way_areas least_distance nearest_area_rounding Cross turned table_cross i
 is_cross_bar cell_range row_range column_range block_range sure_cells tight_cross needless_tolds
 first_filling last_filling next_filling fillings_number filling_at index_of_filling cell_numbers is_step way is_way
 is_corner a_corner free_step Page known guess guesses worked_out is_safe least_covers rounding_cross is_rounding
-first_rounding either_way_cells told_mean told_spread totals_for people_for_mean squares_for Report""".split()
+first_rounding either_way_cells told_mean told_spread totals_for people_for_mean squares_for Report
+does_fit first_scores last_scores scores_number scores_at index_of_scores holders totals squares middles lowest highest
+needless_facts least_clashes rest_totals Faces agree box_faces tipped is_box first_box last_box boxes_number box_at
+index_of_box spot_values pair_values sure_spots gap_pairs slab_boxes tops_number turns_of islands""".split()
 
 
 class Kinds(unittest.TestCase):
     def test_another_class_of_the_package_is_none(self):
         for call, names, values, kinds in cases():
             for at, name in enumerate(names):
-                if name in ("areas", "cross", "page"):
+                if name in ("areas", "cross", "page", "report", "part", "faces"):
                     other = GRID if name == "areas" else ALONE
                     self.refuse(call, [*values[:at], other, *values[at + 1:]], kinds[name], other)
 

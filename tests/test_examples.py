@@ -102,6 +102,47 @@ EXAMPLES = r'''
 >>> few = Report(3, (1, 5), (("mean", 0, 3), ("middle", 2)))
 >>> few.text, few.more(("total", (8, 10))).without(1).facts
 ('report 3 1-5\nmean 0 3\nmiddle 2', (('mean', 0, 3), ('total', (8, 10))))
+
+>>> from toldcounts.reportdata import first_scores, index_of_scores, last_scores, scores_at, scores_number
+>>> [scores_number(few), first_scores(few), scores_at(few, 1), last_scores(few), index_of_scores(few, (2, 2, 5))]
+[3, (1, 2, 5), (2, 2, 4), (2, 2, 5), 2]
+
+>>> from toldcounts.reportvalues import highest, holders, least_clashes, lowest, needless_facts, rest_totals, squares, totals
+>>> [holders(few, 2), totals(few), squares(few), lowest(few), highest(few)]
+[(1, 2), (8, 9), (24, 30, 33), (1, 2), (4, 5)]
+>>> needless_facts(few), needless_facts(few.more(("total", (8, 10))))
+((), (0, 2))
+>>> least_clashes(Report(3, (1, 5), (("middle", 2), ("total", (13, 15)), ("least", 3))))
+((0, 1), (0, 2))
+>>> rest_totals(few, Report(1, (1, 5), (("least", 2),)))
+(6, 7)
+
+>>> from toldcounts.faces import Faces, agree, box_faces, tipped
+>>> box = (((1, 0), (0, 2)), ((0, 1), (1, 0)))
+>>> [box_faces(box).text.split("\n"), box_faces(box).edges, len(box_faces(box)), tipped(box_faces(box)).text.split("\n")]
+[['front 1 2', 'front 1 1', 'side 1 2', 'side 1 1', 'top 1 1', 'top 1 2'], (2, 2, 2), 8, ['front 1 1', 'front 2 1', 'side 1 1', 'side 1 2', 'top 1 2', 'top 1 1']]
+>>> apart, ones = Faces(((1, 0), (0, 1)), ((1, 0), (0, 1)), ((0, 1), (1, 0))), Faces(((1, 1), (1, 1)), ((1, 1), (1, 1)), ((1, 1), (1, 1)))
+>>> [agree(apart), agree(Faces(((1,),), ((2,),), ((1,),)))]
+[True, False]
+
+>>> from toldcounts.boxes import box_at, boxes_number, first_box, index_of_box, is_box, last_box
+>>> [boxes_number(apart), first_box(apart), boxes_number(ones), first_box(ones), last_box(ones)]
+[0, None, 2, (((0, 1), (1, 0)), ((1, 0), (0, 1))), (((1, 0), (0, 1)), ((0, 1), (1, 0)))]
+>>> [index_of_box(ones, last_box(ones)), box_at(ones, 0) == first_box(ones), is_box(ones, box)]
+[1, True, False]
+
+>>> from toldcounts.boxvalues import gap_pairs, pair_values, slab_boxes, spot_values, sure_spots, tops_number
+>>> [spot_values(ones, (0, 0, 0)), pair_values(ones, (0, 0, 0), (0, 1, 1)), pair_values(ones, (0, 0, 0), (0, 0, 1)), sure_spots(ones), gap_pairs(ones)[0], sure_spots(box_faces((((2, 0),),)))]
+[(0, 1), (0, 2), (1,), (), ((0, 0, 0), (0, 1, 1)), ((0, 0, 0), (0, 0, 1))]
+>>> [slab_boxes(((1, 1), (1, 1)), ((1, 1), (1, 1))), tops_number(((1, 1), (1, 1)), ((1, 1), (1, 1)))]
+[4, 3]
+
+>>> from toldcounts.islands import islands, turns_of
+>>> [turns_of(ones, first_box(ones)) == (last_box(ones),), islands(ones) == ((first_box(ones), 2),)]
+[True, True]
+>>> apart = box_faces((((1, 0, 0), (0, 1, 0), (0, 0, 1)), ((0, 1, 0), (0, 0, 1), (1, 0, 0))))
+>>> [boxes_number(apart), islands(apart) == ((first_box(apart), 1), (last_box(apart), 1))]
+[2, True]
 '''
 
 

@@ -210,6 +210,13 @@ class Statements(unittest.TestCase):
             self.assertEqual(node.args.defaults + node.args.kw_defaults, [], place)
             self.assertIsNone(getattr(node, "returns", None), place)
 
+    def test_stars_in_calls(self):
+        for place, node in nodes(ast.Call):
+            for each in node.args:
+                if isinstance(each, ast.Starred):
+                    self.assertIsInstance(each.value, ast.Name, place)
+            self.assertNotIn(None, [each.arg for each in node.keywords], place)
+
     def test_comparisons_by_is(self):
         for place, node in nodes(ast.Compare):
             for sign, other in zip(node.ops, node.comparators):

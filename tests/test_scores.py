@@ -2,23 +2,13 @@
 
 import fractions
 import itertools
-import math
 import unittest
 
-from support import STRANGE
+from support import STRANGE, all_scores, nearest
 from toldcounts.errors import InvalidNumber, InvalidPeople, InvalidPlaces, InvalidScale
 from toldcounts.scores import people_for_mean, squares_for, told_mean, told_spread, totals_for
 
 SCALES = tuple((low, high) for low in range(7) for high in range(low, 7))
-
-
-def nearest(number):
-    """The nearest integer, halves up."""
-    return math.floor(number + fractions.Fraction(1, 2))
-
-
-def all_scores(people, scale):
-    return list(itertools.combinations_with_replacement(range(scale[0], scale[1] + 1), people))
 
 
 class Small(unittest.TestCase):

@@ -6,7 +6,7 @@ from toldcounts.areacounts import need_count
 from toldcounts.areas import index_of_area, is_area, need_areas, stretches_of
 from toldcounts.errors import InvalidNames, InvalidNumber
 from toldcounts.trees import parts_of, tree_ranges
-from toldcounts.values import is_integer, wrong_at
+from toldcounts.values import holds_one, is_integer, wrong_at
 
 
 def need_areas_named(areas, names):
@@ -80,8 +80,3 @@ def least_area_covers(areas, count, hidden, some, width):
         wider = [more for more in combinations(shown, many) if not holds_one(more, covers)]
         covers.extend([more for more in wider if _are_safe(areas, count, (*hidden, *more), some, width)])
     return tuple(covers)
-
-
-def holds_one(some, covers):
-    """Whether one of the covers is a part of that."""
-    return any([all([name in some for name in cover]) for cover in covers])

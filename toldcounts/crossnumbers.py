@@ -44,13 +44,15 @@ def _first_numbers(cross, rows, columns):
 def fillings_number(cross):
     """How many fillings there are."""
     _need_few(cross)
-    return sum([many for _, many in _first_numbers(cross, *_orders(cross))])
+    rows, columns = _orders(cross)
+    return sum([many for _, many in _first_numbers(cross, rows, columns)])
 
 
 def filling_at(cross, index):
     """The filling with this index, all of them ascending."""
     _need_few(cross)
-    plan = plan_of(cross, *_orders(cross))
+    rows, columns = _orders(cross)
+    plan = plan_of(cross, rows, columns)
     if not is_number(index) or plan is None:
         raise InvalidIndex(index)
     lows, wides, (windows, lots) = plan
@@ -79,7 +81,8 @@ def index_of_filling(cross, filling):
     """The index of the filling, all of them ascending."""
     _need_few(cross)
     need_filling(cross, filling)
-    lows, wides, (windows, lots) = plan_of(cross, *_orders(cross))
+    rows, columns = _orders(cross)
+    lows, wides, (windows, lots) = plan_of(cross, rows, columns)
     tally = Tally(wides, windows, lots)
     filled = [[] for _ in lows]
     before = 0

@@ -2,12 +2,12 @@
 
 from itertools import combinations
 
-from toldcounts.areapages import holds_one, need_width
+from toldcounts.areapages import need_width
 from toldcounts.crosses import Cross, cross_told_anew, is_cell, need_cell, need_cross, told_stretches
 from toldcounts.errors import InvalidCells, InvalidFilling, InvalidText, NotAPage, TooMany
 from toldcounts.fillings import cross_network, need_filling, numbers_in
 from toldcounts.limits import MOST_COVERED
-from toldcounts.values import read_number, wrong_at
+from toldcounts.values import holds_one, read_number, wrong_at
 
 _HIDDEN_SIGN = "?"
 

@@ -35,6 +35,11 @@ def wrong_at(values, is_right):
     return None
 
 
+def holds_one(some, lots):
+    """Whether one of the lots is a part of that."""
+    return any([all([value in some for value in lot]) for lot in lots])
+
+
 def read_number(text):
     """The integer from 0 on that stands there, None if none does."""
     if not (text.isascii() and text.isdigit()) or len(text) > _MOST_DIGITS:
