@@ -58,7 +58,9 @@ class Edges(unittest.TestCase):
         self.assertEqual((boxes_number(empty), first_box(empty)), (1, (((0, 0, 0),) * 3,) * 3))
 
     def test_faces_without_a_box(self):
-        for faces in (APART, Faces(((1,),), ((1,),), ((0,),)), Faces(((1, 1),), ((1,),), ((1,), (1,)))):
+        for faces in (APART, Faces(((1,),), ((1,),), ((0,),)), Faces(((1, 1),), ((1,),), ((1,), (1,))),
+                      Faces(((0, 0),), ((0,),), ((1,), (0,))), Faces(((0,),), ((0, 0),), ((0, 1),)),
+                      Faces(((0, 0),), ((1,),), ((1,), (0,))), Faces(((1, 0),), ((0,),), ((1,), (0,)))):
             self.assertEqual((boxes_number(faces), first_box(faces), last_box(faces)), (0, None, None))
             with self.assertRaises(InvalidIndex):
                 box_at(faces, 0)

@@ -11,6 +11,7 @@ from support import (CROWDED, GRID, HALL, SMALL_SIZES, SPOT, STRANGE, all_fillin
 from toldcounts.areas import Areas
 from toldcounts.crosses import Cross, table_cross, turned
 from toldcounts.crossnumbers import cell_numbers, filling_at, fillings_number, index_of_filling
+from toldcounts.crossranges import cell_range
 from toldcounts.errors import InvalidCell, InvalidFilling, InvalidIndex, NotACross, TooMany
 from toldcounts.fillings import is_filling
 from toldcounts.firsts import first_filling, last_filling, next_filling
@@ -142,6 +143,29 @@ class Edges(unittest.TestCase):
         self.assertEqual(number, number_by_cells(cross))
         for index in (0, 1, number // 2, number - 1):
             self.assertEqual(index_of_filling(cross, filling_at(cross, index)), index)
+
+    def test_numbers_that_no_filling_has(self):
+        text = """row all - 0-5
+row g all 0-2
+row b all 3-40
+row d b 1-6
+row f b 1-40
+row e d 0-5
+column all - 0-5
+column a all 0-3
+column f all 0-3
+column g a 1-2
+column e g 0-2
+column b g 0-4
+cells 0-1 0-1 0-1
+cells 0-1 0-1 0-1
+cells 0 0-1 1"""
+        cross = Cross.told(text)
+        self.assertEqual(cell_numbers(cross, (0, 1)), ((0, fillings_number(cross)),))
+        for cross in crosses_around(115, 60, GREATER):
+            for cell in itertools.product(range(len(cross.cells)), range(len(cross.cells[0]))):
+                low, high = cell_range(cross, cell)
+                self.assertEqual([number for number, _ in cell_numbers(cross, cell)], list(range(low, high + 1)))
 
     def test_no_data(self):
         self.assertEqual((fillings_number(CROWDED), cell_numbers(CROWDED, (0, 0))), (0, ()))

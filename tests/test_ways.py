@@ -201,6 +201,9 @@ class Wrong(unittest.TestCase):
             self.assertIs(is_way(GRID, ONE, TWO, ((value, 1),)), False)
             self.assertIs(is_way(GRID, ONE, TWO, ((STEP, value),)), False)
         self.assertIs(is_way(GRID, ONE, TWO, STEP), False)
+        for value in (((STEP, 1), (STEP, 0)), ((STEP, 0), (STEP, 1)), (((STEP[1], STEP[0]), -1),)):
+            self.assertIs(is_way(GRID, ONE, TWO, value), False)
+        self.assertIs(is_way(GRID, ONE, ONE, ((STEP, 0),)), False)
         self.assertIs(is_way(GRID, ONE, TWO, (STEP, 1)), False)
         for value in STRANGE:
             if not (isinstance(value, tuple) and len(value) == 0):

@@ -2,26 +2,22 @@
 
 from toldcounts.boxes import boxes_of, need_few_boxes, need_small_front, tables_with
 from toldcounts.faces import need_front_and_side, need_spot, spots_in
+from toldcounts.values import ascending
 
 
 def _at(box, spot):
     return box[spot[0]][spot[1]][spot[2]]
 
 
-def _ascending(values):
-    """Each of the values once."""
-    return tuple(sorted(set(values)))
-
-
 def _pair_values(boxes, spot, other_spot):
-    return _ascending([_at(box, spot) + _at(box, other_spot) for box in boxes])
+    return ascending([_at(box, spot) + _at(box, other_spot) for box in boxes])
 
 
 def spot_values(faces, spot):
     """All values of a spot."""
     need_few_boxes(faces)
     need_spot(faces, spot)
-    return _ascending([_at(box, spot) for box in boxes_of(faces)])
+    return ascending([_at(box, spot) for box in boxes_of(faces)])
 
 
 def pair_values(faces, spot, other_spot):

@@ -52,6 +52,11 @@ def outside_of(cross):
     return len(cross.rows) + len(cross.columns)
 
 
+def cell_places(cross):
+    """The places of the cells among all flows, which are in the order of the names of the told stretches."""
+    return list(range(outside_of(cross), len(cross.tolds)))
+
+
 def cross_arcs(cross):
     """The arcs of the flows, in the order of the names of the told stretches ([13])."""
     many, outside = len(cross.rows), outside_of(cross)

@@ -1,7 +1,7 @@
 """The first and the last filling of a cross, and the next one behind each ([12])."""
 
 from toldcounts.crosses import as_table, need_cross
-from toldcounts.fillings import cross_network, need_filling, numbers_in, outside_of
+from toldcounts.fillings import cell_places, cross_network, need_filling, numbers_in
 
 
 def first_filling(cross):
@@ -12,11 +12,6 @@ def first_filling(cross):
 def last_filling(cross):
     """The last filling, None if there is none."""
     return _end_filling(cross, 1)
-
-
-def _cell_places(cross):
-    """The places of the cells among all flows."""
-    return list(range(outside_of(cross), outside_of(cross) + len(cross)))
 
 
 def _end_filling(cross, sign):
@@ -30,7 +25,7 @@ def _end_filling(cross, sign):
 
 def _led_on(cross, network, sign):
     """The filling in which each cell in turn has as little (sign -1) or as much (sign 1) as it still can."""
-    places = _cell_places(cross)
+    places = cell_places(cross)
     for at in places:
         network.end_of(at, sign)
         network.hold(at)
@@ -44,7 +39,7 @@ def next_filling(cross, filling):
     numbers = numbers_in(cross, filling)
     network = cross_network(cross)
     network.take(numbers)
-    places = _cell_places(cross)
+    places = cell_places(cross)
     told = [cell for row in cross.cells for cell in row]
     for at in places:
         network.hold(at)

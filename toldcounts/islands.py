@@ -23,7 +23,7 @@ def _turned(box, sides, sign):
 
 
 def _pairs_below(edge):
-    return [pair for pair in combinations(list(range(edge)), 2)]
+    return list(combinations(range(edge), 2))
 
 
 def _turns(box):

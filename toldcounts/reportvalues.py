@@ -5,15 +5,10 @@ from itertools import combinations
 from toldcounts.errors import InvalidNumber, InvalidPeople, InvalidScale
 from toldcounts.reportdata import fitting, is_as_told, middle_of, scores_of, squares_of
 from toldcounts.reports import is_score, need_report
-from toldcounts.values import holds_one
+from toldcounts.values import ascending, holds_one
 
 # So many bits hold how many people have one score.
 _HOLDER_BITS = 4
-
-
-def _ascending(values):
-    """Each of the values once."""
-    return tuple(sorted(set(values)))
 
 
 def holders(report, score):
@@ -21,32 +16,32 @@ def holders(report, score):
     need_report(report)
     if not is_score(score, report.scale):
         raise InvalidNumber(score)
-    return _ascending([scores.count(score) for scores in fitting(report)])
+    return ascending([scores.count(score) for scores in fitting(report)])
 
 
 def totals(report):
     """All totals of scores that fit."""
-    return _ascending([sum(scores) for scores in fitting(report)])
+    return ascending([sum(scores) for scores in fitting(report)])
 
 
 def squares(report):
     """All squares of scores that fit."""
-    return _ascending([squares_of(scores) for scores in fitting(report)])
+    return ascending([squares_of(scores) for scores in fitting(report)])
 
 
 def middles(report):
     """All middles of scores that fit."""
-    return _ascending([middle_of(scores) for scores in fitting(report)])
+    return ascending([middle_of(scores) for scores in fitting(report)])
 
 
 def lowest(report):
     """All first scores of scores that fit."""
-    return _ascending([scores[0] for scores in fitting(report)])
+    return ascending([scores[0] for scores in fitting(report)])
 
 
 def highest(report):
     """All last scores of scores that fit."""
-    return _ascending([scores[-1] for scores in fitting(report)])
+    return ascending([scores[-1] for scores in fitting(report)])
 
 
 def _ways_to_be(report):

@@ -35,6 +35,11 @@ def wrong_at(values, is_right):
     return None
 
 
+def ascending(values):
+    """A tuple of the values, ascending, each of them once."""
+    return tuple(sorted(set(values)))
+
+
 def holds_one(some, lots):
     """Whether one of the lots is a part of that."""
     return any([all([value in some for value in lot]) for lot in lots])

@@ -1,7 +1,7 @@
 """Steps and ways between fillings, and corners ([14], [15])."""
 
 from toldcounts.crosses import is_cell, need_cross
-from toldcounts.fillings import cross_arcs, is_filling, need_filling, numbers_in, outside_of
+from toldcounts.fillings import cell_places, cross_arcs, is_filling, need_filling, numbers_in, outside_of
 from toldcounts.firsts import first_filling
 from toldcounts.networks import Network
 from toldcounts.values import is_integer, wrong_at
@@ -56,14 +56,9 @@ def _network_of(cross, changes):
     return network
 
 
-def _cell_places(cross):
-    """The places of the cells among all flows."""
-    return list(range(outside_of(cross), len(cross.tolds)))
-
-
 def _step_of(cross, ring):
     """The step of a ring: what its flows do to the cells."""
-    cells = {at: cross.tolds[at][1:] for at in _cell_places(cross)}
+    cells = {at: cross.tolds[at][1:] for at in cell_places(cross)}
     more = [cells[at] for at, sign in ring if sign > 0 and at in cells]
     less = [cells[at] for at, sign in ring if sign < 0 and at in cells]
     return (tuple(sorted(more)), tuple(sorted(less)))
@@ -74,7 +69,7 @@ def way(cross, filling, other):
     _need_both(cross, filling, other)
     left = [there - here for here, there in zip(numbers_in(cross, filling), numbers_in(cross, other))]
     found = []
-    for at in _cell_places(cross):
+    for at in cell_places(cross):
         while left[at] != 0:
             network = _network_of(cross, [(min(0, much), max(0, much)) for much in left])
             # As much leaves each area as comes in, so some ring goes on from here, each flow the right way.
@@ -121,7 +116,7 @@ def free_step(cross, filling):
         free = int(arc[2] < number < arc[3])
         changes.append((-free, free))
     network = _network_of(cross, changes)
-    for at in _cell_places(cross):
+    for at in cell_places(cross):
         ring = network.ring_with(at, 1)
         if ring:
             return _step_of(cross, ring)
