@@ -5,9 +5,11 @@ import itertools
 import unittest
 
 from support import ALONE, CROWDED, FEW, GRID, HALL, LAND, ONES, POOR, SEEN, STRANGE, TOWN
+from support_polls import HALVES, NINE, OPEN_NINE
 from toldcounts import (areacounts, areanumbers, areapages, arearanges, arearoundings, areas, boxes, boxvalues, crosses,
                         crossnumbers, crossranges, crossroundings, errors, faces, fillings, firsts, islands, pages,
-                        reportdata, reports, reportvalues, scores, stretches, ways)
+                        pollpeople, polls, profiles, reportdata, reports, reportvalues, rules, scores, stretches,
+                        things, votes, ways)
 
 FILLING, OTHER = ((1, 2), (1, 0)), ((2, 0), (1, 1))
 PAGE = pages.Page(HALL, FILLING, ((0, 0), (1, 1)))
@@ -17,7 +19,10 @@ GOOD = {"areas": TOWN, "count": SEEN, "hidden": ("east", "mid"), "some": ("mid",
         "filling": FILLING, "other": OTHER, "page": PAGE, "people": 3, "scale": (1, 5), "total": 9, "squares": 29,
         "mean": 3, "places": 1, "most": 40, "report": FEW, "score": 2, "scores": (2, 2, 5), "faces": ONES, "box": BOX,
         "spot": (0, 0, 1), "other_spot": (1, 1, 0), "front": ((1, 2), (1, 1)), "side": ((2, 1), (1, 1)),
-        "top": ((1, 1), (2, 1)), "part": reports.Report(2, (1, 5), ())}
+        "top": ((1, 1), (2, 1)), "part": reports.Report(2, (1, 5), ()),
+        "poll": HALVES, "polls": (HALVES, polls.Poll(0, (33, 67))), "shares": (50, 500), "share": 33, "votes": OPEN_NINE,
+        "pairs": (5, 4, 6), "firsts": ((0, 9), (0, 9), (2, 2)), "profile": (0, 3, 0, 4, 2, 0), "order": "bca",
+        "letter": "b", "rule": "points", "thing": LAND, "place": "coast"}
 ERRORS = {"areas": "NotAreas", "count": "InvalidCount", "hidden": "InvalidNames", "some": "InvalidNames",
           "name": "UnknownName", "width": "InvalidNumber", "base": "InvalidNumber", "index": "InvalidIndex",
           "cross": "NotACross", "cell": "InvalidCell", "stretch": "InvalidStretch", "other_stretch": "InvalidStretch",
@@ -28,7 +33,11 @@ ERRORS = {"areas": "NotAreas", "count": "InvalidCount", "hidden": "InvalidNames"
           "places": "InvalidPlaces", "most": "InvalidNumber", "facts": "InvalidFacts", "fact": "InvalidFact",
           "report": "NotAReport", "part": "NotAReport", "score": "InvalidNumber", "scores": "InvalidScores",
           "faces": "NotFaces", "box": "InvalidBox", "spot": "InvalidSpot", "other_spot": "InvalidSpot",
-          "front": "InvalidFace", "side": "InvalidFace", "top": "InvalidFace"}
+          "front": "InvalidFace", "side": "InvalidFace", "top": "InvalidFace",
+          "poll": "NotAPoll", "polls": "InvalidPolls", "shares": "InvalidShares", "share": "InvalidShare",
+          "counts": "InvalidCount", "votes": "NotVotes", "pairs": "InvalidPairs", "firsts": "InvalidFirsts",
+          "profile": "InvalidProfile", "order": "InvalidOrder", "letter": "InvalidName", "rule": "InvalidRule",
+          "thing": "NotAThing", "place": "InvalidPlace"}
 # Each call with the names of its parameters in their order; with values where others than those above are right,
 # and errors where others than those above are told. What has no error may have any value.
 CALLS = (
@@ -151,22 +160,58 @@ CALLS = (
     (boxvalues.tops_number, "front side", {}, {}),
     (islands.turns_of, "faces box", {}, {}),
     (islands.islands, "faces", {}, {}),
+    (polls.Poll, "places shares", {}, {}),
+    (polls.Poll.told, "text", {"text": HALVES.text}, {}),
+    (polls.poll_of, "counts places", {"counts": (1, 2)}, {}),
+    (polls.count_stretch, "share people places", {}, {}),
+    (pollpeople.does_fit_people, "poll people", {}, {}),
+    (pollpeople.first_counts, "poll people", {"people": 4}, {}),
+    (pollpeople.count_ranges, "poll people", {"people": 4}, {}),
+    (pollpeople.pollings_number, "poll people", {"people": 4}, {}),
+    (pollpeople.people_for, "poll most", {}, {}),
+    (pollpeople.from_on, "poll", {}, {}),
+    (pollpeople.least_people, "poll", {}, {}),
+    (pollpeople.same_people, "polls most", {}, {}),
+    (votes.Votes, "people pairs firsts", {}, {}),
+    (votes.Votes.told, "text", {"text": NINE.text}, {}),
+    (votes.votes_of, "profile", {}, {}),
+    (profiles.is_profile, "votes value", {"value": (0, 3, 0, 4, 2, 0)}, {}),
+    (profiles.first_profile, "votes", {}, {}),
+    (profiles.profiles_number, "votes", {}, {}),
+    (profiles.order_numbers, "votes order", {}, {}),
+    (profiles.first_numbers, "votes letter", {}, {}),
+    (profiles.last_numbers, "votes letter", {}, {}),
+    (rules.winners, "profile rule", {}, {}),
+    (rules.can_win, "votes letter rule", {}, {}),
+    (rules.surely_wins, "votes letter rule", {}, {}),
+    (things.has_data, "thing", {}, {}),
+    (things.data_number, "thing", {}, {}),
+    (things.first_data, "thing", {}, {}),
+    (things.place_range, "thing place", {}, {}),
+    (things.thing_text, "thing", {}, {}),
+    (things.read_thing, "text", {"text": FEW.text}, {}),
 )
 MODULES = (stretches, areas, areacounts, arearanges, areanumbers, areapages, arearoundings, crosses, fillings,
            crossranges, firsts, crossnumbers, ways, pages, crossroundings, scores, reports, reportdata, reportvalues,
-           faces, boxes, boxvalues, islands)
-CLASSES = (areas.Areas, crosses.Cross, pages.Page, reports.Report, faces.Faces)
+           faces, boxes, boxvalues, islands, polls, pollpeople, votes, profiles, rules, things)
+CLASSES = (areas.Areas, crosses.Cross, pages.Page, reports.Report, faces.Faces, polls.Poll, votes.Votes)
 BASES = {"NotPossible": ("NoData",), "WrongName": ("UnknownName",)}
+
+
+ANY_PEOPLE = (scores.told_mean, scores.told_spread, polls.count_stretch, pollpeople.does_fit_people,
+              pollpeople.first_counts, pollpeople.count_ranges, pollpeople.pollings_number)
 
 
 def is_right(call, name, value):
     """Whether a strange value is right for this parameter."""
     if name in ("hidden", "some"):
         return isinstance(value, tuple) and len(value) == 0
+    if name == "counts":
+        return isinstance(value, tuple) and len(value) == 2 and value[0].__class__ is int and value[0] > 0
     if not isinstance(value, int) or value < 10 ** 9:
         return False
     if name == "people":
-        return call in (scores.told_mean, scores.told_spread)
+        return call in ANY_PEOPLE
     return name in ("width", "total", "squares", "mean") and (call, name) != (scores.told_spread, "total")
 
 
@@ -253,15 +298,18 @@ is_corner a_corner free_step Page known guess guesses worked_out is_safe least_c
 first_rounding either_way_cells told_mean told_spread totals_for people_for_mean squares_for Report
 does_fit first_scores last_scores scores_number scores_at index_of_scores holders totals squares middles lowest highest
 needless_facts least_clashes rest_totals Faces agree box_faces tipped is_box first_box last_box boxes_number box_at
-index_of_box spot_values pair_values sure_spots gap_pairs slab_boxes tops_number turns_of islands""".split()
+index_of_box spot_values pair_values sure_spots gap_pairs slab_boxes tops_number turns_of islands Poll poll_of count_stretch
+does_fit_people first_counts count_ranges pollings_number people_for from_on least_people same_people Votes votes_of
+is_profile first_profile profiles_number order_numbers first_numbers last_numbers winners can_win surely_wins has_data
+data_number first_data place_range thing_text read_thing""".split()
 
 
 class Kinds(unittest.TestCase):
     def test_another_class_of_the_package_is_none(self):
         for call, names, values, kinds in cases():
             for at, name in enumerate(names):
-                if name in ("areas", "cross", "page", "report", "part", "faces"):
-                    other = GRID if name == "areas" else ALONE
+                if name in ("areas", "cross", "page", "report", "part", "faces", "poll", "votes", "thing"):
+                    other = {"areas": GRID, "poll": NINE, "votes": HALVES, "thing": PAGE}.get(name, ALONE)
                     self.refuse(call, [*values[:at], other, *values[at + 1:]], kinds[name], other)
 
     refuse = Calls.refuse

@@ -143,6 +143,41 @@ EXAMPLES = r'''
 >>> apart = box_faces((((1, 0, 0), (0, 1, 0), (0, 0, 1)), ((0, 1, 0), (0, 0, 1), (1, 0, 0))))
 >>> [boxes_number(apart), islands(apart) == ((first_box(apart), 1), (last_box(apart), 1))]
 [2, True]
+
+>>> from toldcounts.polls import Poll, count_stretch, poll_of
+>>> halves = Poll(0, (50, 50))
+>>> halves.text, poll_of((1, 1, 1), 0).shares, count_stretch(33, 100, 0), count_stretch(33, 7, 0)
+('poll 0 50 50', (33, 33, 33), (33, 33), None)
+
+>>> from toldcounts.pollpeople import count_ranges, first_counts, from_on, least_people, people_for, pollings_number, same_people
+>>> people_for(halves, 9), from_on(halves), least_people(halves)
+((2, 4, 6, 8), 100, 2)
+>>> first_counts(halves, 101), count_ranges(halves, 101), pollings_number(halves, 101), first_counts(halves, 99)
+((50, 51), ((50, 51), (50, 51)), 2, None)
+>>> from_on(Poll(0, (50, 51))), least_people(Poll(0, (50, 51))), same_people((halves, Poll(0, (33, 67))), 12)
+(None, 200, (6, 12))
+
+>>> from toldcounts.votes import Votes, votes_of
+>>> nine, open_nine = Votes(9, (5, 4, 6), ((0, 9), (0, 9), (2, 2))), Votes(9, (5, 4, 6), ((0, 9), (0, 9), (0, 9)))
+>>> nine.text, votes_of((0, 3, 0, 4, 2, 0)).text
+('votes 9 5 4 6 0-9 0-9 2', 'votes 9 5 4 6 3 4 2')
+
+>>> from toldcounts.profiles import first_numbers, first_profile, last_numbers, order_numbers, profiles_number
+>>> first_profile(nine), profiles_number(nine), first_profile(open_nine), profiles_number(open_nine)
+((0, 3, 0, 4, 2, 0), 1, (0, 0, 3, 1, 5, 0), 10)
+>>> order_numbers(open_nine, "abc"), first_numbers(open_nine, "c"), last_numbers(open_nine, "a")
+((0, 1, 2, 3), (2, 3, 4, 5), (1, 2, 3, 4))
+
+>>> from toldcounts.rules import can_win, surely_wins, winners
+>>> ours = (0, 3, 0, 4, 2, 0)
+>>> [winners(ours, "firsts"), winners(ours, "lasts"), winners(ours, "points"), winners(ours, "pairs")]
+['b', 'c', 'c', 'c']
+>>> can_win(open_nine, "a", "firsts"), surely_wins(open_nine, "a", "firsts"), surely_wins(open_nine, "c", "pairs")
+(True, False, True)
+
+>>> from toldcounts.things import data_number, first_data, has_data, place_range, read_thing, thing_text
+>>> [has_data(land), data_number(land), first_data(grid), place_range(hall, (0, 1)), place_range(few, 2), place_range(ones, (0, 0, 0)), read_thing(thing_text(few)) == few]
+[True, 10, ((0, 3), (1, 1)), (0, 3), (1, 2), (0, 1), True]
 '''
 
 

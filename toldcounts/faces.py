@@ -93,8 +93,13 @@ def spots_in(edges):
     return tuple(spots)
 
 
+def is_spot(faces, value):
+    """Whether it is a spot of the faces."""
+    return are_numbers(value, len(faces.edges)) and all([at < edge for at, edge in zip(value, faces.edges)])
+
+
 def need_spot(faces, spot):
-    if not are_numbers(spot, len(faces.edges)) or any([at >= edge for at, edge in zip(spot, faces.edges)]):
+    if not is_spot(faces, spot):
         raise InvalidSpot(spot)
 
 

@@ -36,6 +36,12 @@ def need_people(people, most):
         raise InvalidPeople(people)
 
 
+def need_most(most):
+    """Raises InvalidNumber for what is no integer from 1 to 3000."""
+    if not is_integer(most) or not 1 <= most <= _MOST_MEANT:
+        raise InvalidNumber(most)
+
+
 def _need_number(number):
     if not is_number(number):
         raise InvalidNumber(number)
@@ -99,8 +105,7 @@ def people_for_mean(scale, mean, places, most):
     need_scale(scale)
     _need_number(mean)
     _need_places(places)
-    if not is_integer(most) or not 1 <= most <= _MOST_MEANT:
-        raise InvalidNumber(most)
+    need_most(most)
     found = []
     for people in range(1, most + 1):
         least, behind = _totals_with(people, scale, mean, places)

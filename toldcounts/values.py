@@ -1,7 +1,7 @@
 """What many arguments are checked for, and how numbers stand in texts ([3])."""
 
-# Nothing is said about integers of more digits, and Python does not read very long ones.
-_MOST_DIGITS = 100
+# Nothing is said about integers of more than 100 digits, but for those that come of such ones; some can have 500.
+_MOST_DIGITS = 900
 _MOST_LETTERS = 8
 
 

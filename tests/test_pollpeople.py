@@ -1,0 +1,162 @@
+"""How many people a poll can be of ([25], [26])."""
+
+import itertools
+import unittest
+
+from support import STRANGE, ends
+from support_polls import HALVES, NINE, all_polled, many_polls, number_polled, refused, whole_of
+from toldcounts.errors import InvalidNumber, InvalidPeople, InvalidPolls, NotAPoll
+from toldcounts.pollpeople import (count_ranges, does_fit_people, first_counts, from_on, least_people, people_for,
+                                   pollings_number, same_people)
+from toldcounts.polls import Poll, poll_of
+
+POLLS = many_polls(311, 90) + [HALVES, Poll(0, (33, 33, 33)), Poll(0, (0, 100)), Poll(1, (0, 0, 1000)), Poll(0, (0, 0)),
+                               Poll(0, (50, 51)), Poll(0, (100, 100)), Poll(1, (500, 501)), Poll(0, (17,) * 6),
+                               Poll(0, (1, 1)), Poll(0, (33, 67)), Poll(0, (34, 34, 34)), Poll(0, (99, 0, 1))]
+# P and Q of the document, by the letter.
+EVERY = (1, 2, 3, 4, 5, 6, 7, 8, 9, 11, 12, 13, 20, 49, 64)
+
+
+def limits(poll):
+    least = sum(2 * share - 1 for share in poll.shares if share != 0)
+    return least, sum(2 * share + 1 for share in poll.shares), 2 * whole_of(poll.places)
+
+
+class Small(unittest.TestCase):
+    def test_counts_of_few_people(self):
+        fitting = 0
+        for poll, people in itertools.product(POLLS, EVERY):
+            counts = all_polled(poll, people)
+            fitting += len(counts) > 0
+            self.assertIs(does_fit_people(poll, people), len(counts) > 0)
+            self.assertEqual(pollings_number(poll, people), len(counts))
+            self.assertEqual(first_counts(poll, people), counts[0] if counts else None)
+            ranges = tuple(ends(numbers) for numbers in zip(*counts)) if counts else None
+            self.assertEqual(count_ranges(poll, people), ranges)
+        self.assertGreater(fitting, 100)
+
+    def test_counts_of_more_people(self):
+        for poll in POLLS[::2]:
+            for people in (100, 101, 200, 517, 1000, 2345):
+                number = number_polled(poll, people)
+                self.assertEqual(pollings_number(poll, people), number)
+                self.assertIs(does_fit_people(poll, people), number > 0)
+                if number:
+                    counts = first_counts(poll, people)
+                    self.assertEqual((sum(counts), poll_of(counts, poll.places)), (people, poll))
+                    if number < 3000:
+                        self.assertEqual(counts, all_polled(poll, people)[0])
+
+    def test_ranges_of_more_people(self):
+        for poll in (HALVES, Poll(0, (33, 33, 33)), Poll(0, (25, 75)), Poll(0, (99, 0, 1)), Poll(0, (10, 20, 70))):
+            for people in (100, 300, 451, 602):
+                counts = all_polled(poll, people)
+                ranges = tuple(ends(numbers) for numbers in zip(*counts)) if counts else None
+                self.assertEqual(count_ranges(poll, people), ranges)
+
+
+class Many(unittest.TestCase):
+    def test_very_many_people(self):
+        people = 2 * 10 ** 60
+        self.assertEqual(count_ranges(HALVES, people), ((99 * 10 ** 58 + 1, 101 * 10 ** 58 - 1),) * 2)
+        self.assertEqual(first_counts(HALVES, people), (99 * 10 ** 58 + 1, 101 * 10 ** 58 - 1))
+        self.assertEqual(pollings_number(HALVES, people), 2 * 10 ** 58 - 1)
+        self.assertFalse(does_fit_people(Poll(0, (100, 100)), people))
+        self.assertTrue(does_fit_people(Poll(0, (50, 51)), people))
+        self.assertFalse(does_fit_people(Poll(0, (50, 51)), people + 1))
+
+    def test_numbers_of_many_counts(self):
+        for poll in (Poll(0, (17, 17, 17, 17, 16, 16)), Poll(1, (167, 167, 167, 167, 166, 166)), Poll(0, (0,) * 5 + (99,))):
+            for people in (6, 60, 600, 6000):
+                self.assertEqual(pollings_number(poll, people), number_polled(poll, people))
+
+
+class People(unittest.TestCase):
+    def test_which_numbers_fit(self):
+        for poll in POLLS[::3]:
+            fitting = people_for(poll, 3000)
+            self.assertEqual(fitting, tuple(people for people in range(1, 3001) if does_fit_people(poll, people)))
+            self.assertEqual(tuple(people for people in EVERY if all_polled(poll, people)),
+                             tuple(people for people in EVERY if people in fitting))
+            for most in (1, 2, 17, 2999):
+                self.assertEqual(people_for(poll, most), tuple(people for people in fitting if people <= most))
+
+    def test_three_sorts_of_polls(self):
+        sorts = set()
+        for poll in POLLS[1::2] + many_polls(312, 40, 6):
+            least, most, twice = limits(poll)
+            told = (least_people(poll), from_on(poll))
+            fitting = people_for(poll, 3000)
+            if least > twice or most <= twice:
+                self.assertEqual((told, fitting), ((None, None), ()))
+                sorts.add("none")
+            elif least == twice:
+                self.assertGreater(told[0], 1)
+                self.assertEqual(told, (fitting[0], None))
+                self.assertEqual(fitting, tuple(range(told[0], 3001, told[0])))
+                sorts.add("multiples")
+            else:
+                self.assertEqual(told[0], min(fitting + told[1:]))
+                self.assertTrue(told[1] == 1 or not does_fit_people(poll, told[1] - 1))
+                self.assertTrue(all(does_fit_people(poll, people) for people in range(told[1], told[1] + 400)))
+                self.assertTrue(all(people in fitting for people in range(told[1], 3001)))
+                sorts.add("all" if told[1] == 1 else "nearly all")
+        self.assertEqual(sorted(sorts), ["all", "multiples", "nearly all", "none"])
+
+    def test_the_greatest_numbers(self):
+        for poll, right in ((Poll(1, (200, 200, 200, 201, 201)), 1), (Poll(1, (199, 199, 200, 200, 200)), -1)):
+            least, most, twice = limits(poll)
+            self.assertEqual(right, 1 if twice - least == 1 else twice - most)
+            start = from_on(poll)
+            self.assertGreater(start, 3000)
+            self.assertFalse(does_fit_people(poll, start - 1))
+            self.assertTrue(all(does_fit_people(poll, people) for people in range(start, 24001)))
+
+    def test_one_share_off(self):
+        self.assertEqual(from_on(Poll(0, (0, 100))), 1)
+        self.assertEqual(least_people(Poll(0, (0, 100))), 1)
+        self.assertEqual((from_on(Poll(1, (500, 501))), least_people(Poll(1, (500, 501)))), (None, 2000))
+        self.assertEqual((from_on(Poll(0, (13, 88))), least_people(Poll(0, (13, 88)))), (None, 8))
+        self.assertEqual(people_for(Poll(0, (13, 88)), 33), (8, 16, 24, 32))
+
+    def test_several_polls(self):
+        for polls in itertools.product(POLLS[::5], POLLS[::7]):
+            right = tuple(people for people in range(1, 61) if all(does_fit_people(poll, people) for poll in polls))
+            self.assertEqual(same_people(polls, 60), right)
+        self.assertEqual(same_people((HALVES,), 9), (2, 4, 6, 8))
+        self.assertEqual(same_people(polls=(HALVES, Poll(0, (33, 67)), Poll(0, (25, 75))), most=30), (12, 24))
+        self.assertEqual(same_people((HALVES, HALVES, Poll(0, (0, 0))), 3000), ())
+
+
+class Wrong(unittest.TestCase):
+    def test_polls(self):
+        for call in (does_fit_people, first_counts, count_ranges, pollings_number, people_for):
+            for value in STRANGE + (NINE, HALVES.text, (HALVES,)):
+                self.assertIs(refused(self, NotAPoll, call, value, None).given, value)
+        for call in (from_on, least_people):
+            for value in STRANGE + (NINE, HALVES.text):
+                self.assertIs(refused(self, NotAPoll, call, value).given, value)
+
+    def test_people(self):
+        for call in (does_fit_people, first_counts, count_ranges, pollings_number):
+            for value in STRANGE + (0, "2", (2,)):
+                if not (isinstance(value, int) and value > 1):
+                    self.assertIs(refused(self, InvalidPeople, call, HALVES, value).given, value)
+
+    def test_most(self):
+        for value in STRANGE + (0, 3001, "2"):
+            self.assertIs(refused(self, InvalidNumber, people_for, HALVES, value).given, value)
+            self.assertIs(refused(self, InvalidNumber, same_people, (HALVES,), value).given, value)
+
+    def test_tuples_of_polls(self):
+        for value in STRANGE + (NINE, HALVES.text):
+            self.assertEqual(refused(self, InvalidPolls, same_people, (value,), None).index, 0)
+            self.assertEqual(refused(self, InvalidPolls, same_people, (HALVES, value, None), None).index, 1)
+            if not isinstance(value, tuple):
+                self.assertIsNone(refused(self, InvalidPolls, same_people, value, None).index)
+        self.assertIsNone(refused(self, InvalidPolls, same_people, (), 5).index)
+        self.assertIsNone(refused(self, InvalidPolls, same_people, [HALVES], 5).index)
+
+
+if __name__ == "__main__":
+    unittest.main()
