@@ -6,13 +6,14 @@ import unittest
 
 from support import ALONE, CROWDED, FEW, GRID, HALL, LAND, ONES, POOR, SEEN, STRANGE, TOWN
 from support_polls import HALVES, NINE, OPEN_NINE
-from toldcounts import (areacounts, areanumbers, areapages, arearanges, arearoundings, areas, boxes, boxvalues, crosses,
-                        crossnumbers, crossranges, crossroundings, errors, faces, fillings, firsts, islands, pages,
-                        pollpeople, polls, profiles, reportdata, reports, reportvalues, rules, scores, stretches,
-                        things, votes, ways)
+from toldcounts import (areacounts, areanumbers, areapages, arearanges, arearoundings, areas, boxes, boxvalues,
+                        certificates, checker, crosses, crossnumbers, crossranges, crossroundings, errors, faces, fillings,
+                        firsts, islands, pages, pollpeople, polls, profiles, reportdata, reports, reportvalues, rules,
+                        scores, stretches, things, votes, ways, wishes)
 
 FILLING, OTHER = ((1, 2), (1, 0)), ((2, 0), (1, 1))
 PAGE = pages.Page(HALL, FILLING, ((0, 0), (1, 1)))
+WIDE_PAGE = pages.Page(crosses.table_cross((5, 4), (3, 6)), ((2, 3), (1, 3)), ((0, 0), (0, 1), (1, 0), (1, 1)))
 BOX = (((0, 1), (1, 0)), ((1, 0), (0, 1)))
 GOOD = {"areas": TOWN, "count": SEEN, "hidden": ("east", "mid"), "some": ("mid",), "name": "east", "width": 2,
         "base": 5, "index": 3, "cross": HALL, "cell": (0, 1), "stretch": (0, 5), "other_stretch": (3, 9),
@@ -22,7 +23,8 @@ GOOD = {"areas": TOWN, "count": SEEN, "hidden": ("east", "mid"), "some": ("mid",
         "top": ((1, 1), (2, 1)), "part": reports.Report(2, (1, 5), ()),
         "poll": HALVES, "polls": (HALVES, polls.Poll(0, (33, 67))), "shares": (50, 500), "share": 33, "votes": OPEN_NINE,
         "pairs": (5, 4, 6), "firsts": ((0, 9), (0, 9), (2, 2)), "profile": (0, 3, 0, 4, 2, 0), "order": "bca",
-        "letter": "b", "rule": "points", "thing": LAND, "place": "coast"}
+        "letter": "b", "rule": "points", "thing": LAND, "place": "coast", "wish": ("value", "coast", (3, 5)),
+        "claim": ("filling", HALL.text), "paper": FILLING}
 ERRORS = {"areas": "NotAreas", "count": "InvalidCount", "hidden": "InvalidNames", "some": "InvalidNames",
           "name": "UnknownName", "width": "InvalidNumber", "base": "InvalidNumber", "index": "InvalidIndex",
           "cross": "NotACross", "cell": "InvalidCell", "stretch": "InvalidStretch", "other_stretch": "InvalidStretch",
@@ -37,7 +39,9 @@ ERRORS = {"areas": "NotAreas", "count": "InvalidCount", "hidden": "InvalidNames"
           "poll": "NotAPoll", "polls": "InvalidPolls", "shares": "InvalidShares", "share": "InvalidShare",
           "counts": "InvalidCount", "votes": "NotVotes", "pairs": "InvalidPairs", "firsts": "InvalidFirsts",
           "profile": "InvalidProfile", "order": "InvalidOrder", "letter": "InvalidName", "rule": "InvalidRule",
-          "thing": "NotAThing", "place": "InvalidPlace"}
+          "thing": "NotAThing", "place": "InvalidPlace", "wish": "InvalidWish"}
+# Parameters for which no error is told.
+FREE = ("value", "claim", "paper")
 # Each call with the names of its parameters in their order; with values where others than those above are right,
 # and errors where others than those above are told. What has no error may have any value.
 CALLS = (
@@ -190,16 +194,31 @@ CALLS = (
     (things.place_range, "thing place", {}, {}),
     (things.thing_text, "thing", {}, {}),
     (things.read_thing, "text", {"text": FEW.text}, {}),
+    (wishes.is_wish, "value", {"value": ("fits",)}, {}),
+    (wishes.suits, "thing wish", {}, {}),
+    (wishes.does_hold, "thing wish", {}, {}),
+    (checker.accepts, "claim paper", {}, {}),
+    (certificates.certify_count, "areas", {}, {}),
+    (certificates.certify_area, "areas name", {}, {}),
+    (certificates.certify_filling, "cross", {}, {}),
+    (certificates.certify_cell, "cross cell", {}, {}),
+    (certificates.certify_way, "cross filling other", {}, {}),
+    (certificates.certify_safe, "page cell width", {"page": WIDE_PAGE, "cell": (0, 0)}, {}),
+    (certificates.certify_scores, "report", {}, {}),
+    (certificates.certify_profile, "votes", {}, {}),
+    (certificates.certify_box, "faces", {}, {}),
+    (certificates.certify_people, "poll people", {"people": 4}, {}),
 )
 MODULES = (stretches, areas, areacounts, arearanges, areanumbers, areapages, arearoundings, crosses, fillings,
            crossranges, firsts, crossnumbers, ways, pages, crossroundings, scores, reports, reportdata, reportvalues,
-           faces, boxes, boxvalues, islands, polls, pollpeople, votes, profiles, rules, things)
+           faces, boxes, boxvalues, islands, polls, pollpeople, votes, profiles, rules, things, wishes,
+           checker, certificates)
 CLASSES = (areas.Areas, crosses.Cross, pages.Page, reports.Report, faces.Faces, polls.Poll, votes.Votes)
 BASES = {"NotPossible": ("NoData",), "WrongName": ("UnknownName",)}
 
 
 ANY_PEOPLE = (scores.told_mean, scores.told_spread, polls.count_stretch, pollpeople.does_fit_people,
-              pollpeople.first_counts, pollpeople.count_ranges, pollpeople.pollings_number)
+              pollpeople.first_counts, pollpeople.count_ranges, pollpeople.pollings_number, certificates.certify_people)
 
 
 def is_right(call, name, value):
@@ -247,14 +266,14 @@ class Calls(unittest.TestCase):
         for call, names, values, kinds in cases():
             for at, name in enumerate(names):
                 for value in STRANGE:
-                    if name == "value":
-                        self.assertIs(call(*values[:at], value), False)
+                    if name in FREE:
+                        self.assertIs(call(*values[:at], value, *values[at + 1:]), False)
                     elif not is_right(call, name, value) and (call, name) != (scores.told_spread, "total"):
                         self.refuse(call, [*values[:at], value, *values[at + 1:]], kinds[name], value)
 
     def test_the_first_of_several_wrong_ones(self):
         for call, names, values, kinds in cases():
-            places = [at for at, name in enumerate(names) if name != "value"]
+            places = [at for at, name in enumerate(names) if name not in FREE]
             for many in range(2, len(places) + 1):
                 for wrong in itertools.combinations(places, many):
                     told = list(values)
@@ -301,7 +320,9 @@ needless_facts least_clashes rest_totals Faces agree box_faces tipped is_box fir
 index_of_box spot_values pair_values sure_spots gap_pairs slab_boxes tops_number turns_of islands Poll poll_of count_stretch
 does_fit_people first_counts count_ranges pollings_number people_for from_on least_people same_people Votes votes_of
 is_profile first_profile profiles_number order_numbers first_numbers last_numbers winners can_win surely_wins has_data
-data_number first_data place_range thing_text read_thing""".split()
+data_number first_data place_range thing_text read_thing is_wish suits does_hold accepts
+certify_count certify_area certify_filling certify_cell certify_way certify_safe certify_scores certify_profile certify_box
+certify_people""".split()
 
 
 class Kinds(unittest.TestCase):

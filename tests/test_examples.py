@@ -178,6 +178,43 @@ EXAMPLES = r'''
 >>> from toldcounts.things import data_number, first_data, has_data, place_range, read_thing, thing_text
 >>> [has_data(land), data_number(land), first_data(grid), place_range(hall, (0, 1)), place_range(few, 2), place_range(ones, (0, 0, 0)), read_thing(thing_text(few)) == few]
 [True, 10, ((0, 3), (1, 1)), (0, 3), (1, 2), (0, 1), True]
+
+>>> from toldcounts.wishes import does_hold, is_wish, suits
+>>> [is_wish(("fewer", 0)), suits(land, ("value", "coast", (3, 5))), suits(land, ("value", (0, 0), (0, 1))), does_hold(land, ("value", "coast", (3, 5))), does_hold(land, ("lone",)), does_hold(grid, ("fewer", 3)), does_hold(few, ("fits",))]
+[False, True, False, True, False, True, True]
+
+>>> from toldcounts.desks import Desk
+>>> desk = Desk(hall)
+>>> desk.tell(("cell", 0, 0), (2, 2))
+>>> [desk.sure(), desk.ends(("cell", 0, 1)), desk.ends(("row", "all")), len(desk), desk.tale]
+[((0, 0), (1, 0)), (0, 2), (4, 6), 1, ((('cell', 0, 0), (2, 2)),)]
+>>> desk.undo()
+>>> [len(desk), desk.now == hall]
+[0, True]
+
+>>> from toldcounts.shelves import Shelf, played
+>>> shelf = Shelf()
+>>> shelf.put("land", land)
+>>> shelf.wish("land", ("value", "coast", (3, 5)))
+>>> shelf.put("hall", hall)
+>>> [shelf.names, shelf.wishes, "hall" in shelf, len(shelf), shelf.log[1], played(shelf.log).thing("land") == land]
+[('hall', 'land'), (('land', ('value', 'coast', (3, 5))),), True, 2, ('wish', 'land', ('value', 'coast', (3, 5))), True]
+
+>>> from toldcounts.consoles import Console
+>>> console = Console(Desk(hall))
+>>> [console.say("number"), console.say("ends cell 0 1"), console.say("tell cell 0 0 2"), console.say("number"), console.say("first"), console.say("sure"), console.say("told")]
+['15', '0-3', 'told', '7', '2 0/1 1', '2', '1']
+>>> [console.say("undo"), console.say("undo"), console.say("tell row all 9"), console.say("ends row x"), console.say("hello")]
+['undone', 'NothingToUndo', 'InvalidStretch', 'InvalidTold', 'no such line']
+
+>>> from toldcounts.checker import accepts
+>>> [accepts(("count", land.text), (11, 7, 4, 5, 2)), accepts(("count", land.text), [11, 7, 4, 5, 2]), accepts(("no filling", crowded.text), ((), ("both",), True)), accepts(("people", halves.text, 4), (2, 2)), accepts(("people", halves.text, 4), (1, 3)), accepts(("scores", few.text), (2, 2, 5)), accepts("land", None)]
+[True, False, True, True, False, True, False]
+
+>>> from toldcounts.certificates import certify_area, certify_cell, certify_people
+>>> claim, paper = certify_area(land, "all")
+>>> [claim[2:], paper[2:], accepts(claim, paper), certify_people(halves, 3), accepts(*certify_cell(hall, (0, 1)))]
+[('all', 10, 12), ((), ()), True, None, True]
 '''
 
 

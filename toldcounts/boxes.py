@@ -58,18 +58,19 @@ def boxes_of(faces):
     return _boxes_with(faces.front, faces.side, faces.top)
 
 
-def _is_box(faces, value):
+def is_box_for(faces, value):
+    """Whether it is a box for the faces, also where these have too many boxes to be told."""
     return is_box_with(faces.edges, value) and sums_of_box(value) == (faces.front, faces.side, faces.top)
 
 
 def is_box(faces, value):
     """Whether it is a box for the faces."""
     need_few_boxes(faces)
-    return _is_box(faces, value)
+    return is_box_for(faces, value)
 
 
 def need_box(faces, box):
-    if not _is_box(faces, box):
+    if not is_box_for(faces, box):
         raise InvalidBox(box)
 
 

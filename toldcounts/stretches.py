@@ -23,6 +23,13 @@ def lies_in(number, stretch):
     return stretch[0] <= number <= stretch[1]
 
 
+def beside(stretch, ends):
+    """The part of the stretch below the ends, and the one above them; None for one that is empty."""
+    below = (stretch[0], ends[0] - 1)
+    above = (ends[1] + 1, stretch[1])
+    return [part if part[0] <= part[1] else None for part in (below, above)]
+
+
 def text_of_stretch(stretch):
     """The text of a pair that is known to be a stretch."""
     low, high = stretch
