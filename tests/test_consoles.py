@@ -67,7 +67,8 @@ class Lines(unittest.TestCase):
                  "ends row 0", "ends column", "undo ", "undo 1", "Undo", "undone", "number 1", "numbers", " number", "sure sure",
                  "sure\n", "first 1", "firsts", "told 0", "tolds", "tell told", "undo\nundo", "tell row all four", "ends ROW all",
                  "tell cell 0 0 +1", "tell row all 4-5-6", "NothingToUndo", "told\n", "tell row all - 4", "tell column both",
-                 "ends row all\n", "ends cell 0 0\n", "tell cell 0 0 0-\n2", "tell row all  4", "first ", "ends cell  0 0")
+                 "ends row all\n", "ends cell 0 0\n", "tell cell 0 0 0-\n2", "tell row all  4", "first ", "ends cell  0 0",
+                 "ends box 0 0", "tell box 0 0 1", "ends row 0 0", "tell cells 0 0 1", "ends  0 0", "ends CELL 0 0")
         console = Console(Desk(HALL))
         for line in wrong:
             self.assertEqual(console.say(line), NO_LINE, line)

@@ -37,6 +37,11 @@ STATEMENTS = (ast.Assign, ast.AugAssign, ast.If, ast.While, ast.For, ast.Return,
 BARRED_NODES = (ast.GeneratorExp, ast.Global, ast.Nonlocal, ast.AsyncFunctionDef, ast.Await, ast.Yield, ast.YieldFrom,
                 ast.SetComp, ast.Set, ast.Div, ast.MatMult, ast.NamedExpr, ast.Import, ast.Match, ast.Assert)
 
+# The modules of the interface: each needs only those ahead of it.
+MODULES = """limits errors stretches areas areacounts arearanges areanumbers areapages arearoundings crosses fillings
+crossranges firsts crossnumbers ways pages crossroundings scores reports reportdata reportvalues faces boxes boxvalues
+islands polls pollpeople votes profiles rules things wishes trials desks shelves consoles checker certificates""".split()
+
 
 def nodes(kind):
     for name, tree in TREES.items():
@@ -115,6 +120,17 @@ class Files(unittest.TestCase):
             self.assertTrue(free, f"files import from one another: {sorted(needs)}")
             for name in free:
                 del needs[name]
+
+    def test_modules_need_only_those_ahead_of_them(self):
+        self.assertLessEqual(set(MODULES), set(TREES))
+        for at, name in enumerate(MODULES):
+            waiting, needs = [name], set()
+            while waiting:
+                others = {node.module.partition(".")[2] for node in TREES[waiting.pop()].body
+                          if isinstance(node, ast.ImportFrom) and node.module not in LIBRARY}
+                waiting.extend(others - needs)
+                needs |= others
+            self.assertLessEqual(needs & set(MODULES), set(MODULES[:at]), name)
 
     def defined(self, name):
         found = []
@@ -259,6 +275,43 @@ class Statements(unittest.TestCase):
                 self.assertTrue(all(each.startswith("str(") for each in told), place)
             if node.name == "__init__":
                 self.assertEqual(told, [], place)
+            if node.name in ("__contains__", "__bool__"):
+                self.assertIsInstance(node.body[-1], ast.Return, place)
+
+    def test_with_statements(self):
+        for place, node in nodes(ast.With):
+            self.assertEqual([ast.unparse(item.context_expr) for item in node.items], ["self.trial()"], place)
+        for place, node in nodes(ast.FunctionDef):
+            if node.name == "__exit__":
+                self.assertEqual(parameters(node), ["self", "kind", "value", "trace"], place)
+                rows = [row for row in ast.walk(node) if isinstance(row, ast.stmt) and row is not node]
+                for row in rows:
+                    if isinstance(row, ast.If):
+                        self.assertEqual((ast.unparse(row.test), row.orelse), ("kind is not None", []), place)
+                    else:
+                        self.assertIsInstance(row, ast.Assign, place)
+                        for part in (row.value, *row.targets):
+                            self.assertIsInstance(part, ast.Attribute, place)
+                            self.assertRegex(ast.unparse(part), r"^self\._", place)
+
+    def test_operators_and_properties_change_nothing(self):
+        for place, node in nodes(ast.FunctionDef):
+            special = node.name in DUNDERS - {"__init__", "__enter__", "__exit__"}
+            if special or "property" in [ast.unparse(each) for each in node.decorator_list]:
+                for each in ast.walk(node):
+                    self.assertNotIsInstance(each, (ast.AugAssign, ast.Delete, ast.Assign), place)
+                    if isinstance(each, ast.Call):
+                        self.assertIn(ast.unparse(each.func), ("len", "str", "tuple", "sorted", "list", "range", "isinstance"), place)
+
+    def test_functions_of_the_library(self):
+        for name, tree in TREES.items():
+            told = {alias.name for node in tree.body if isinstance(node, ast.ImportFrom) and node.module in LIBRARY
+                    for alias in node.names}
+            calls = [node for node in ast.walk(tree) if isinstance(node, ast.Call) and ast.unparse(node.func) in told]
+            uses = [node for node in ast.walk(tree) if isinstance(node, ast.Name) and node.id in told]
+            self.assertEqual(len(calls), len(uses), name)
+            for call in calls:
+                self.assertEqual(call.keywords, [], name)
 
 
 if __name__ == "__main__":

@@ -12,7 +12,8 @@ from toldcounts.polls import Poll, poll_of
 
 POLLS = many_polls(311, 90) + [HALVES, Poll(0, (33, 33, 33)), Poll(0, (0, 100)), Poll(1, (0, 0, 1000)), Poll(0, (0, 0)),
                                Poll(0, (50, 51)), Poll(0, (100, 100)), Poll(1, (500, 501)), Poll(0, (17,) * 6),
-                               Poll(0, (1, 1)), Poll(0, (33, 67)), Poll(0, (34, 34, 34)), Poll(0, (99, 0, 1))]
+                               Poll(0, (1, 1)), Poll(0, (33, 67)), Poll(0, (34, 34, 34)), Poll(0, (99, 0, 1)),
+                               Poll(0, (1, 100)), Poll(1, (1, 1000)), Poll(0, (34, 34, 33))]
 # P and Q of the document, by the letter.
 EVERY = (1, 2, 3, 4, 5, 6, 7, 8, 9, 11, 12, 13, 20, 49, 64)
 
@@ -48,8 +49,9 @@ class Small(unittest.TestCase):
                         self.assertEqual(counts, all_polled(poll, people)[0])
 
     def test_ranges_of_more_people(self):
-        for poll in (HALVES, Poll(0, (33, 33, 33)), Poll(0, (25, 75)), Poll(0, (99, 0, 1)), Poll(0, (10, 20, 70))):
-            for people in (100, 300, 451, 602):
+        for poll in (HALVES, Poll(0, (33, 33, 33)), Poll(0, (25, 75)), Poll(0, (99, 0, 1)), Poll(0, (10, 20, 70)),
+                     Poll(0, (50, 51)), Poll(0, (34, 34, 33)), Poll(0, (1, 100)), Poll(0, (33, 34, 32))):
+            for people in (100, 200, 300, 451, 602):
                 counts = all_polled(poll, people)
                 ranges = tuple(ends(numbers) for numbers in zip(*counts)) if counts else None
                 self.assertEqual(count_ranges(poll, people), ranges)
@@ -83,7 +85,7 @@ class People(unittest.TestCase):
 
     def test_three_sorts_of_polls(self):
         sorts = set()
-        for poll in POLLS[1::2] + many_polls(312, 40, 6):
+        for poll in POLLS[1::2] + POLLS[-3:] + many_polls(312, 40, 6):
             least, most, twice = limits(poll)
             told = (least_people(poll), from_on(poll))
             fitting = people_for(poll, 3000)

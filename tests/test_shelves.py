@@ -262,6 +262,7 @@ class Wrong(unittest.TestCase):
             self.assertIs(refused(self, InvalidName, shelf.put, value, None).given, value)
         for value in STRANGE + NO_THINGS + (NINE, LAND.text, (LAND,)):
             self.assertIs(refused(self, NotAThing, shelf.put, "land", value).given, value)
+            self.assertIs(refused(self, NotAThing, Shelf().put, "land", value).given, value)
         for value in STRANGE + ("town", "Land", ("land",), ["land"], LAND, "land "):
             for call in (shelf.thing, shelf.drop):
                 self.assertIs(refused(self, UnknownName, call, value).given, value)
@@ -318,7 +319,7 @@ class Logs(unittest.TestCase):
         for value in STRANGE + (list(self.LOG), "log", None, 0):
             if not isinstance(value, tuple):
                 self.assertIsNone(refused(self, InvalidLog, played, value).index)
-        wrong = STRANGE + (("put", "land"), ("put", "land", LAND), ("put", "Land", LAND.text), ("put", "land", LAND.text, 1),
+        wrong = STRANGE + ((), ("put", "land"), ("put", "land", LAND), ("put", "Land", LAND.text), ("put", "land", LAND.text, 1),
                            ("put", "land", LAND.text + "\n"), ("put", "hall", NO_THINGS[0].text), ("put", "land", None),
                            ("drop", "x"), ("drop",), ("drop", "hall", 1), ("drop", None), ("wish", "land"), ("lift",),
                            ("wish", "x", ("fits",)), ("wish", "land", ("fit",)), ("wish", "land", ("lone",)),

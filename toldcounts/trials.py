@@ -1,6 +1,14 @@
 """Trials: what is done to a desk or a shelf in them is undone if they end with an exception."""
 
 
+class Begun:
+    """The states of the owner where a trial began, and the one around it that the same object began, or None."""
+
+    def __init__(self, states, around):
+        self.states = states
+        self.around = around
+
+
 class Trial:
     """For with statements; also for several, one within another."""
 
@@ -16,11 +24,3 @@ class Trial:
         if kind is not None:
             self._owner._states = self._begun.states
         self._begun = self._begun.around
-
-
-class Begun:
-    """The states of the owner where a trial began, and the one around it that the same object began, or None."""
-
-    def __init__(self, states, around):
-        self.states = states
-        self.around = around

@@ -94,8 +94,8 @@ def is_way(cross, filling, other, value):
     _need_both(cross, filling, other)
     if not isinstance(value, tuple) or not all([_is_pair(cross, pair) for pair in value]):
         return False
-    more = [cell for (cells, _), _ in value for cell in cells]
-    less = [cell for (_, cells), _ in value for cell in cells]
+    more = {cell: True for (cells, _), _ in value for cell in cells}
+    less = {cell: True for (_, cells), _ in value for cell in cells}
     if any([cell in less for cell in more]):
         return False
     now = filling
