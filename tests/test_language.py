@@ -280,7 +280,7 @@ class Statements(unittest.TestCase):
 
     def test_with_statements(self):
         for place, node in nodes(ast.With):
-            self.assertEqual([ast.unparse(item.context_expr) for item in node.items], ["self.trial()"], place)
+            self.assertEqual([ast.unparse(item.context_expr) for item in node.items], ["Trial(self)"], place)
         for place, node in nodes(ast.FunctionDef):
             if node.name == "__exit__":
                 self.assertEqual(parameters(node), ["self", "kind", "value", "trace"], place)

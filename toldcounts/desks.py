@@ -56,7 +56,7 @@ class Desk:
 
     def tried(self, action):
         """What the function returns, called with the desk within a trial."""
-        with self.trial() as desk:
+        with Trial(self) as desk:
             return action(desk)
 
     def __len__(self):

@@ -82,8 +82,9 @@ def _behind_gaps(poll):
     """A number of people such that from it on the poll fits all numbers, if it fits all from some number on.
 
     With k shares, and P and Q as in [26], the least counts add up to less than P * N / (2 * U) + k, the greatest ones
-    to Q * N / (2 * U) - k or more. As P is less than 2 * U and Q is more, N = 2 * U * k is between them, and so is each
-    greater N. If P is 2 * U, the poll fits multiples of a number that divides 2 * U, so one below this, too.
+    to Q * N / (2 * U) - k or more, or one of them is N alone. As P is less than 2 * U and Q is more, N = 2 * U * k is
+    between them, and so is each greater N; from N = U on each share has a count. If P is 2 * U, the poll fits multiples
+    of a number that divides 2 * U, so one below this, too.
     """
     return 2 * whole_of(poll.places) * len(poll)
 

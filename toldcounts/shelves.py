@@ -88,7 +88,7 @@ class Shelf:
 
     def tried(self, action):
         """What the function returns, called with the shelf within a trial."""
-        with self.trial() as shelf:
+        with Trial(self) as shelf:
             return action(shelf)
 
     def __contains__(self, value):
