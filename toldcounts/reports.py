@@ -5,7 +5,7 @@ from toldcounts.errors import NotAReport, TooMany
 from toldcounts.limits import MOST_FACTS, MOST_PEOPLE
 from toldcounts.scores import is_places, need_people, need_scale
 from toldcounts.stretches import is_stretch, lies_in, stretch_in_text, text_of_stretch
-from toldcounts.values import is_integer, is_number, read_number
+from toldcounts.values import is_integer, is_number, number_text, read_number
 
 # The parts of each fact, behind the word at its head.
 _PARTS = {"mean": ("places", "number"), "spread": ("places", "number"), "total": ("stretch",), "middle": ("score",),
@@ -129,7 +129,7 @@ def _need_facts(facts, scale):
 def _fact_text(fact):
     words = [fact[0]]
     for part in fact[1:]:
-        words.append(text_of_stretch(part) if isinstance(part, tuple) else f"{part}")
+        words.append(text_of_stretch(part) if isinstance(part, tuple) else number_text(part))
     return " ".join(words)
 
 

@@ -1,8 +1,8 @@
 """What many arguments are checked for, and how numbers stand in texts ([3])."""
 
-# Nothing is said about integers of more than 100 digits, but for those that come of such ones; some can have 500.
-_MOST_DIGITS = 900
 _MOST_LETTERS = 8
+# Python itself writes and reads integers of some thousands of digits only; so many at once it always does.
+_DIGITS_AT_ONCE = 100
 
 
 def is_integer(value):
@@ -45,10 +45,35 @@ def holds_one(some, lots):
     return any([all([value in some for value in lot]) for lot in lots])
 
 
+def _unit():
+    """The least integer that has more digits than are written and read at once."""
+    return int("1" + "0" * _DIGITS_AT_ONCE)
+
+
+def number_text(number):
+    """The decimal digits of an integer from 0 on, however many they are."""
+    unit = _unit()
+    parts = []
+    while number >= unit:
+        number, rest = divmod(number, unit)
+        parts.append(f"{rest}".zfill(_DIGITS_AT_ONCE))
+    return "".join([f"{number}", *parts[::-1]])
+
+
+def _number_with(digits):
+    """The integer with these decimal digits, however many they are."""
+    unit = _unit()
+    head = len(digits) % _DIGITS_AT_ONCE
+    number = int("0" + digits[:head])
+    for at in range(head, len(digits), _DIGITS_AT_ONCE):
+        number = number * unit + int(digits[at:at + _DIGITS_AT_ONCE])
+    return number
+
+
 def read_number(text):
     """The integer from 0 on that stands there, None if none does."""
-    if not (text.isascii() and text.isdigit()) or len(text) > _MOST_DIGITS:
+    if not (text.isascii() and text.isdigit()):
         return None
     if text[0] == "0" and text != "0":
         return None
-    return int(text)
+    return _number_with(text)

@@ -4,7 +4,7 @@ from toldcounts.errors import InvalidFirsts, InvalidPairs, InvalidPeople, Invali
 from toldcounts.limits import MOST_VOTERS
 from toldcounts.scores import need_people
 from toldcounts.stretches import is_stretch, stretch_in_text, text_of_stretch
-from toldcounts.values import are_numbers, read_number
+from toldcounts.values import are_numbers, number_text, read_number
 
 LETTERS = ("a", "b", "c")
 ORDERS = ("abc", "acb", "bac", "bca", "cab", "cba")
@@ -24,7 +24,7 @@ class Votes:
         self._people = people
         self._pairs = pairs
         self._firsts = firsts
-        numbers = [f"{number}" for number in (people, *pairs)]
+        numbers = [number_text(number) for number in (people, *pairs)]
         self._text = " ".join(["votes", *numbers, *[text_of_stretch(stretch) for stretch in firsts]])
 
     @classmethod
