@@ -74,6 +74,27 @@ def number_polled(poll, people):
     return numbers.get(people, 0)
 
 
+def ends_by_share(people, places):
+    """For each share that some count of so many people has, the first and the last of these counts."""
+    whole, found = whole_of(places), {}
+    for count in range(people + 1):
+        share = (2 * whole * count + people) // (2 * people)
+        found[share] = (found.get(share, (count, count))[0], count)
+    return found
+
+
+def tried_people(polls, places, most):
+    """For each of these polls, with so many places, all numbers of people to the most that it fits, one by one."""
+    found = [[] for _ in polls]
+    for people in range(1, most + 1):
+        told = ends_by_share(people, places)
+        for poll, fitting in zip(polls, found):
+            ends = [told.get(share) for share in poll.shares]
+            if None not in ends and sum(low for low, _ in ends) <= people <= sum(high for _, high in ends):
+                fitting.append(people)
+    return [tuple(fitting) for fitting in found]
+
+
 def shares_for(counts, places):
     return tuple(nearest(fractions.Fraction(whole_of(places) * count, sum(counts))) for count in counts)
 

@@ -1,10 +1,12 @@
 """How many people a poll can be of ([25], [26])."""
 
 import itertools
+import random
+import sys
 import unittest
 
 from support import STRANGE, ends
-from support_polls import HALVES, NINE, all_polled, many_polls, number_polled, refused, whole_of
+from support_polls import HALVES, NINE, all_polled, many_polls, number_polled, refused, tried_people, whole_of
 from toldcounts.errors import InvalidNumber, InvalidPeople, InvalidPolls, NotAPoll
 from toldcounts.pollpeople import (count_ranges, does_fit_people, first_counts, from_on, least_people, people_for,
                                    pollings_number, same_people)
@@ -128,6 +130,127 @@ class People(unittest.TestCase):
         self.assertEqual(same_people((HALVES,), 9), (2, 4, 6, 8))
         self.assertEqual(same_people(polls=(HALVES, Poll(0, (33, 67)), Poll(0, (25, 75))), most=30), (12, 24))
         self.assertEqual(same_people((HALVES, HALVES, Poll(0, (0, 0))), 3000), ())
+        self.assertEqual(same_people((HALVES,) * 9, 7), (2, 4, 6))
+        self.assertEqual(same_people((HALVES, Poll(0, (1, 100)), Poll(0, (0, 100))), 3000),
+                         tuple(people for people in people_for(HALVES, 3000) if does_fit_people(Poll(0, (1, 100)), people)))
+
+
+def polls_around(seed, many, places, lengths):
+    """Polls with shares that add up to all, nearly all, or somewhat more; some shares are 0."""
+    chance, whole = random.Random(seed), whole_of(places)
+    found = []
+    for _ in range(many):
+        length = chance.choice(lengths)
+        cuts = sorted(chance.choice((0, chance.randint(0, whole), chance.randint(0, whole))) for _ in range(length - 1))
+        shares = [high - low for low, high in zip([0] + cuts, cuts + [whole])]
+        for _ in range(chance.choice((0, 0, 1, 1, 2, 3, 5))):
+            at = chance.randrange(length)
+            shares[at] = min(whole, max(0, shares[at] + chance.choice((-1, 1))))
+        found.append(Poll(places, tuple(chance.sample(shares, length))))
+    return found
+
+
+def steps(call, *values):
+    """What the call answers, and how many calls of functions this takes."""
+    made = []
+
+    def note(frame, event, what):
+        if event == "call":
+            made.append(frame)
+
+    sys.setprofile(note)
+    try:
+        answer = call(*values)
+    finally:
+        sys.setprofile(None)
+    return answer, len(made)
+
+
+class Tried(unittest.TestCase):
+    """The numbers found by what [26] tells beforehand are those that are found by trying all."""
+
+    def check(self, polls, places, most):
+        seen = set()
+        for poll, right in zip(polls, tried_people(polls, places, most)):
+            self.assertEqual(people_for(poll, min(most, 3000)), tuple(people for people in right if people <= 3000))
+            for less in (1, 2, 3, 7, 50, 64, 65, 99, 100, 101, 199, 200, 201, 300):
+                self.assertEqual(people_for(poll, less), tuple(people for people in right if people <= less), poll.text)
+            self.assertEqual(least_people(poll), right[0] if right else None, poll.text)
+            gaps = sorted(set(range(1, most + 1)) - set(right))
+            behind = gaps[-1] + 1 if gaps else 1
+            # All gaps are below 2 * U for each share, and what fits multiples alone has gaps in each stretch of 2 * U.
+            self.assertEqual(from_on(poll), behind if behind <= most - 2 * whole_of(places) else None, poll.text)
+            seen.add("none" if not right else "multiples" if from_on(poll) is None else "all" if not gaps else "some")
+        return seen
+
+    def test_two_shares(self):
+        pairs = list(itertools.combinations_with_replacement(range(101), 2))
+        near = [shares for shares in pairs if 96 <= sum(shares) <= 104]
+        others = [shares[::-1] for shares in pairs if not 96 <= sum(shares) <= 104][::29]
+        seen = self.check([Poll(0, shares) for shares in near + others], 0, 600)
+        self.assertEqual(seen, {"none", "multiples", "all", "some"})
+
+    def test_three_shares(self):
+        triples = itertools.combinations_with_replacement(range(101), 3)
+        near = [shares for shares in triples if 97 <= sum(shares) <= 103][::13]
+        seen = self.check([Poll(0, shares) for shares in near], 0, 800)
+        self.assertEqual(seen, {"none", "multiples", "some"})
+
+    def test_more_shares(self):
+        seen = self.check(polls_around(313, 160, 0, (4, 5, 6)) + [Poll(0, (16,) * 6), Poll(0, (17,) * 6), Poll(0, (0,) * 6)],
+                          0, 1400)
+        self.assertTrue({"none", "multiples", "some"} <= seen)
+
+    def test_one_place(self):
+        polls = polls_around(314, 40, 1, (2, 3, 3, 4, 6)) + [Poll(1, (333, 333, 334)), Poll(1, (500, 500)), Poll(1, (0, 1000))]
+        for poll, right in zip(polls, tried_people(polls, 1, 3000)):
+            self.assertEqual(people_for(poll, 3000), right)
+            self.assertEqual(people_for(poll, 1234), tuple(people for people in right if people <= 1234))
+            least, start = least_people(poll), from_on(poll)
+            if right or least is None or least <= 3000:
+                self.assertEqual(least, right[0] if right else None)
+            if start is not None and start <= 3000:
+                self.assertTrue(right[right.index(start):] == tuple(range(start, 3001)) and start - 1 not in right)
+            elif start is not None:
+                self.assertFalse(does_fit_people(poll, start - 1))
+                self.assertTrue(all(does_fit_people(poll, people) for people in range(start, start + 500)))
+
+
+class Long(unittest.TestCase):
+    """Polls for which many numbers of people would have to be tried."""
+
+    def test_answers(self):
+        self.assertIsNone(least_people(Poll(1, (167, 167, 167, 167, 167, 500))))
+        self.assertEqual(from_on(Poll(1, (167, 167, 167, 167, 166, 166))), 1398)
+        self.assertIsNone(least_people(Poll(1, (333, 333, 500))))
+        self.assertEqual(from_on(Poll(1, (333, 333, 334))), 1198)
+        fitting = people_for(Poll(1, (500, 500)), 3000)
+        self.assertEqual((len(fitting), fitting), (2500, (*range(2, 1000, 2), *range(1000, 3001))))
+        self.assertEqual(people_for(Poll(1, (500, 501)), 3000), (2000,))
+        self.assertEqual(people_for(Poll(1, (167, 167, 167, 167, 167, 500)), 3000), ())
+        self.assertEqual((least_people(Poll(1, (499, 501))), least_people(Poll(1, (333, 333, 334)))), (335, 574))
+
+    def test_few_numbers_are_tried(self):
+        for call, values, most in ((least_people, (Poll(1, (167, 167, 167, 167, 167, 500)),), 20),
+                                   (people_for, (Poll(1, (167, 167, 167, 167, 167, 500)), 3000), 30),
+                                   (from_on, (Poll(1, (333, 333, 500)),), 20), (least_people, (Poll(1, (500, 501)),), 40),
+                                   (from_on, (Poll(1, (500, 501)),), 30), (people_for, (Poll(1, (500, 501)), 3000), 60),
+                                   (from_on, (Poll(1, (167, 167, 167, 167, 166, 166)),), 400),
+                                   (from_on, (Poll(1, (333, 333, 334)),), 300),
+                                   (people_for, (Poll(1, (500, 500)), 3000), 100), (least_people, (HALVES,), 60)):
+            self.assertLess(steps(call, *values)[1], most, (call, values[0].text))
+
+    def test_many_polls_of_few_people(self):
+        for poll in polls_around(315, 1500, 0, (2, 3, 4)):
+            least, start = least_people(poll), from_on(poll)
+            if least is None:
+                self.assertEqual((start, people_for(poll, 40)), (None, ()))
+                continue
+            fitting = people_for(poll, least + 40)
+            self.assertEqual(fitting, tuple(people for people in range(1, least + 41) if does_fit_people(poll, people)))
+            if start is not None:
+                self.assertTrue(all(does_fit_people(poll, people) for people in range(start, start + 9)))
+                self.assertTrue(start == 1 or not does_fit_people(poll, start - 1))
 
 
 class Wrong(unittest.TestCase):
